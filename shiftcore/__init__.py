@@ -1,0 +1,1 @@
+"""Shiftcore: symbolic dynamics with exact answers and certificates."""
