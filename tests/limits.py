@@ -1,0 +1,48 @@
+"""Webs at which a bound of the document is just met, and webs one beyond it; most were found by search."""
+
+# The reader meets 200 and 201 sets of states, and each of the 200 is a state of the reader.
+SETS_200 = (10, (
+    (0, 0, 1), (1, 1, 0), (2, 5, 2), (2, 8, 3), (3, 4, 3), (4, 4, 2), (4, 7, 3), (5, 8, 2), (5, 9, 3),
+    (6, 2, 3), (6, 3, 2), (7, 5, 3), (7, 6, 2), (7, 8, 2), (8, 6, 3), (8, 7, 2), (9, 3, 3)))
+SETS_201 = (10, (
+    (0, 0, 1), (1, 1, 0), (2, 2, 2), (2, 9, 3), (3, 2, 3), (3, 5, 2), (4, 4, 2), (4, 6, 3), (5, 3, 3),
+    (5, 6, 2), (6, 7, 2), (6, 8, 3), (7, 7, 3), (8, 4, 3), (8, 9, 2), (9, 5, 3)))
+WHOLE_SETS_201 = (8, (
+    (0, 0, 1), (0, 2, 0), (1, 3, 1), (1, 4, 0), (2, 4, 1), (2, 5, 0), (3, 1, 1), (3, 7, 0), (4, 3, 0),
+    (4, 6, 1), (5, 6, 0), (6, 1, 0), (7, 0, 0), (7, 2, 1)))
+# Whole webs; 2000 and 2001 sets of states of the reader are met with the set behind the magic word.
+TRIED_2000 = (6, (
+    (0, 0, 1), (0, 1, 0), (0, 3, 2), (1, 2, 0), (1, 4, 1), (1, 5, 1), (2, 1, 0), (2, 3, 0), (2, 5, 1), (2, 5, 2),
+    (3, 0, 2), (3, 3, 1), (3, 4, 0), (4, 1, 1), (4, 2, 2), (4, 5, 0), (5, 0, 0), (5, 2, 1), (5, 3, 2), (5, 4, 2)))
+TRIED_2001 = (6, (
+    (0, 0, 1), (0, 1, 0), (0, 3, 2), (1, 2, 0), (1, 4, 1), (2, 1, 0), (2, 3, 0), (2, 5, 1), (2, 5, 2),
+    (3, 0, 2), (3, 3, 1), (3, 4, 0), (4, 1, 1), (4, 2, 2), (4, 5, 0), (5, 0, 0), (5, 2, 1), (5, 4, 2)))
+# The reader has 40 and 41 states.
+READER_40 = (9, (
+    (0, 1, 0), (0, 2, 1), (0, 5, 1), (0, 5, 2), (0, 6, 2), (0, 7, 0), (0, 7, 2), (0, 8, 2), (1, 3, 1),
+    (1, 4, 0), (1, 4, 2), (1, 6, 0), (2, 8, 1), (3, 3, 0), (4, 1, 0), (4, 1, 1), (4, 4, 2), (4, 6, 2),
+    (5, 0, 1), (5, 0, 2), (5, 2, 1), (6, 6, 1), (6, 8, 1), (7, 5, 2), (7, 7, 0), (8, 4, 1)))
+READER_41 = (8, (
+    (0, 2, 0), (0, 2, 2), (0, 7, 1), (1, 0, 1), (2, 0, 2), (2, 3, 2), (3, 0, 0), (3, 1, 1), (3, 4, 2),
+    (4, 0, 1), (4, 4, 2), (4, 6, 0), (4, 6, 1), (5, 3, 1), (5, 6, 2), (6, 4, 0), (6, 7, 1), (7, 0, 2),
+    (7, 2, 2), (7, 4, 2), (7, 5, 1)))
+
+
+def marked(gaps):
+    """Return a web of the labels 0, 1, 2 in which no two marks 2 with one of these numbers of others between stand.
+
+    State 0 has no mark near before it; state k has k - 1 labels 0 or 1 behind the last mark.
+    """
+    most = max(gaps) + 1
+    edges = []
+    for state in range(most + 1):
+        onward = 0 if state in (0, most) else state + 1
+        edges.extend([(state, onward, 0), (state, onward, 1)])
+        if state == 0 or state - 1 not in gaps:
+            edges.append((state, 1, 2))
+    return most + 1, tuple(sorted(edges))
+
+
+# The label 3 and the words of a mark, so many labels 0 or 1, and a mark: 1 + 399 and 1 + 400 least bars.
+GAPS_400 = (0, 1, 2, 3, 7, 8)
+GAPS_401 = (4, 7, 8)

@@ -1,0 +1,119 @@
+"""Point 1 for every function: wrong values in the place of each argument, and which error comes first."""
+
+import unittest
+from copy import deepcopy
+
+from shiftcore import bars, counting, errors, growth, parts, readers, webs, webtext
+from tests import wrong
+
+FUNCTIONS = [
+    (webs.essential, ["web"]),
+    (webs.reads, ["web", "word"]),
+    (webs.words, ["web", "length 0 to 8"]),
+    (webs.joint, ["web", "web"]),
+    (webs.union, ["web", "web"]),
+    (parts.parts, ["web"]),
+    (parts.is_whole, ["web"]),
+    (parts.period, ["web"]),
+    (parts.turns, ["web"]),
+    (webtext.write_web, ["web"]),
+    (webtext.read_web, ["text"]),
+    (bars.web_of_bars, ["letters", "bars"]),
+    (bars.is_finite_kind, ["web"]),
+    (bars.step, ["web"]),
+    (bars.least_bars, ["web"]),
+    (readers.reader, ["web"]),
+    (readers.same_shift, ["web", "web"]),
+    (readers.parting_word, ["web", "web"]),
+    (readers.stray_word, ["web", "web"]),
+    (readers.magic_word, ["web"]),
+    (readers.cover, ["web"]),
+    (readers.is_mixing, ["web"]),
+    (counting.count_words, ["web", "length 0 to 200"]),
+    (counting.count_periodic, ["web", "length 1 to 60"]),
+    (counting.count_orbits, ["web", "length 1 to 60"]),
+    (counting.zeta, ["web"]),
+    (counting.power_sums, ["polynomial", "polynomial", "length 0 to 60"]),
+    (growth.growth_floor, ["web", "length 0 to 12"]),
+    (growth.compare_growth, ["web", "web"]),
+    (growth.walks_floor, ["web", "length 0 to 12"]),
+    (growth.compare_walks, ["web", "web"]),
+]
+
+INTERFACE = {
+    "webs": "essential reads words joint union",
+    "parts": "parts is_whole period turns",
+    "webtext": "write_web read_web",
+    "bars": "web_of_bars is_finite_kind step least_bars",
+    "readers": "reader same_shift parting_word stray_word magic_word cover is_mixing",
+    "counting": "count_words count_periodic count_orbits zeta power_sums",
+    "growth": "growth_floor compare_growth walks_floor compare_walks",
+}
+
+
+def is_immutable(value):
+    """Return whether a value holds no list and no dict."""
+    if isinstance(value, tuple):
+        return all(is_immutable(entry) for entry in value)
+    return not isinstance(value, (list, dict))
+
+
+class Arguments(unittest.TestCase):
+    def check_raises(self, function, values, kind, index):
+        """Check that a call raises the error of a kind, with its index, and leaves its arguments as they are."""
+        before = deepcopy(values)
+        with self.assertRaises(errors.ShiftError) as caught:
+            function(*values)
+        self.assertIs(caught.exception.__class__, wrong.KINDS[kind][0])
+        if hasattr(caught.exception, "index"):
+            self.assertEqual(caught.exception.index, index)
+            self.assertNotIsInstance(caught.exception.index, bool)
+        self.assertEqual(repr(values), repr(before))
+
+    def test_wrong_values_in_each_place(self):
+        for function, kinds in FUNCTIONS:
+            good = [wrong.KINDS[kind][2] for kind in kinds]
+            for place, kind in enumerate(kinds):
+                for value, index in wrong.KINDS[kind][1]:
+                    with self.subTest(function=function.__name__, place=place, value=value):
+                        values = good[:place] + [deepcopy(value)] + good[place + 1:]
+                        self.check_raises(function, values, kind, index)
+
+    def test_leftmost_error_first(self):
+        for function, kinds in FUNCTIONS:
+            for place, kind in enumerate(kinds[:-1]):
+                good = [wrong.KINDS[before][2] for before in kinds[:place]]
+                for value, index in wrong.KINDS[kind][1]:
+                    for behind in range(5):
+                        rest = [wrong.KINDS[other][1][3 * behind][0] for other in kinds[place + 1:]]
+                        with self.subTest(function=function.__name__, place=place, value=value, rest=rest):
+                            self.check_raises(function, good + [value] + rest, kind, index)
+
+    def test_good_values_stand_in_all_functions(self):
+        for function, kinds in FUNCTIONS:
+            with self.subTest(function=function.__name__):
+                values = [wrong.KINDS[kind][2] for kind in kinds]
+                answer = function(*values)
+                self.assertEqual(answer, function(*deepcopy(values)))
+                self.assertTrue(is_immutable(answer))
+                self.assertEqual(repr(values), repr([wrong.KINDS[kind][2] for kind in kinds]))
+
+    def test_a_failed_call_changes_nothing(self):
+        for function, kinds in FUNCTIONS:
+            with self.subTest(function=function.__name__):
+                values = [wrong.KINDS[kind][2] for kind in kinds]
+                answer = function(*values)
+                for value, _ in wrong.KINDS[kinds[-1]][1][:20]:
+                    with self.assertRaises(errors.ShiftError):
+                        function(*values[:-1], value)
+                self.assertEqual(answer, function(*values))
+
+    def test_functions_stand_in_the_files_of_the_interface(self):
+        found = {}
+        for function, _ in FUNCTIONS:
+            found.setdefault(function.__module__, set()).add(function.__name__)
+        self.assertEqual(found, {f"shiftcore.{name}": set(names.split()) for name, names in INTERFACE.items()})
+
+
+if __name__ == "__main__":
+    unittest.main()

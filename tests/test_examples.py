@@ -1,0 +1,73 @@
+"""The examples of the interface, word for word."""
+
+import unittest
+
+WEBS = """
+>>> from shiftcore.webs import essential, reads, words
+>>> web = (3, ((0, 0, 0), (0, 1, 1), (1, 0, 0), (1, 2, 1)))
+>>> [essential(web), words(web, 2), reads(web, (1, 1))]
+[(2, ((0, 0, 0), (0, 1, 1), (1, 0, 0))), ((0, 0), (0, 1), (1, 0)), False]
+"""
+PARTS = """
+>>> from shiftcore.parts import is_whole, parts, period, turns
+>>> ring = (4, ((0, 1, 0), (1, 2, 0), (2, 3, 0), (3, 0, 0)))
+>>> [parts((2, ((0, 1, 0),))), is_whole(ring), period(ring), turns(ring)]
+[(), True, 4, ((0,), (1,), (2,), (3,))]
+"""
+WEBTEXT = """
+>>> from shiftcore.webtext import read_web, write_web
+>>> [write_web((2, ((0, 0, 1), (0, 1, 0), (1, 0, 0)))), read_web(' 2;0  0 1 ;0 1 0')]
+['2; 0 0 1; 0 1 0; 1 0 0', (2, ((0, 0, 1), (0, 1, 0)))]
+"""
+WEBTEXT_ERROR = """
+>>> from shiftcore.webtext import read_web
+>>> read_web('2; 0 1 0; 0 0 1')
+raises InvalidText(10)
+"""
+BARS = """
+>>> from shiftcore.bars import least_bars, step, web_of_bars
+>>> golden = web_of_bars(2, ((1, 1),))
+>>> [golden, least_bars(golden), step(golden), step((2, ((0, 0, 1), (0, 1, 0), (1, 0, 0))))]
+[(2, ((0, 0, 0), (0, 1, 1), (1, 0, 0))), ((2,), (3,), (1, 1)), 1, None]
+"""
+READERS = """
+>>> from shiftcore.readers import cover, magic_word, parting_word, reader
+>>> even = (2, ((0, 0, 1), (0, 1, 0), (1, 0, 0)))
+>>> [reader(even), magic_word(even), cover(even), parting_word((2, ((0, 0, 0), (0, 1, 1), (1, 0, 0))), even)]
+[((0, 1, None, None), (2, 1, None, None), (1, None, None, None)), (1,), ((1, 0, None, None), (0, None, None, None)), (1, 1)]
+"""
+COUNTING = """
+>>> from shiftcore.counting import count_periodic, power_sums, zeta
+>>> even = (2, ((0, 0, 1), (0, 1, 0), (1, 0, 0)))
+>>> [[count_periodic(even, n) for n in (1, 2, 3, 4, 5)], zeta(even), power_sums((1, 1), (1, -1, -1), 5)]
+[[2, 2, 5, 6, 12], ((1, 1), (1, -1, -1)), (2, 2, 5, 6, 12)]
+"""
+GROWTH = """
+>>> from shiftcore.growth import compare_growth, growth_floor
+>>> golden = (2, ((0, 0, 0), (0, 1, 1), (1, 0, 0)))
+>>> [growth_floor(golden, 6), compare_growth(golden, (2, ((0, 0, 1), (0, 1, 0), (1, 0, 0))))]
+[1618033, 0]
+"""
+EXAMPLES = [WEBS, PARTS, WEBTEXT, WEBTEXT_ERROR, BARS, READERS, COUNTING, GROWTH]
+
+
+def outcome(text, names):
+    """Return what an expression gives, as the examples write it."""
+    try:
+        return repr(eval(text, names))
+    except ValueError as error:
+        return f"raises {error.__class__.__name__}({', '.join(map(repr, vars(error).values()))})"
+
+
+class Examples(unittest.TestCase):
+    def test_examples(self):
+        for example in EXAMPLES:
+            names = {}
+            *before, call, answer = example.strip().split("\n")
+            for line in before:
+                exec(line.removeprefix(">>> "), names)
+            self.assertEqual(outcome(call.removeprefix(">>> "), names), answer)
+
+
+if __name__ == "__main__":
+    unittest.main()

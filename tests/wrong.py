@@ -1,0 +1,55 @@
+"""Values that are not allowed, of every kind that point 1 names, and what is raised for them."""
+
+from shiftcore.errors import BadBars, BadLength, BadLetters, BadPolynomial, BadWeb, BadWord, NotText
+
+ODD = [-1, 10 ** 30, "", "a", "0", True, False, None, [], [1], {}, {"a": 1}, {0: (0, ())}]
+LOOP = (0, 0, 0)
+
+WEBS = [(value, None) for value in ODD + [0, 1, (), (1,), (1, (), ()), (0, (), ())]]
+WEBS += [([1, ()], None), ((-1, ()), None), ((33, ()), None), ((True, ()), None), ((False, ()), None)]
+WEBS += [(("1", ()), None), ((None, ()), None), (((), ()), None), (((1,), ()), None), ((10 ** 30, ()), None)]
+WEBS += [((1, value), None) for value in ODD + [0, [LOOP], {LOOP: LOOP}, "0 0 0"]]
+WEBS += [((32, tuple((s, e, 0) for s in range(32) for e in range(4))[:101]), None)]
+WEBS += [((2, (None,) * 101), None), ((33, (None,)), None), ((2, [None]), None)]
+WEBS += [((1, (value,)), 0) for value in ODD + [0, (), (0, 0), (0, 0, 0, 0), [0, 0, 0]]]
+WEBS += [((2, (LOOP, value)), 1) for value in ODD + [0, (), (0, 1), (0, 1, 0, 0), [0, 1, 0]]]
+WEBS += [((2, (edge,)), 0) for edge in [(2, 0, 0), (0, 2, 0), (0, 0, 4), (-1, 0, 0), (0, -1, 0), (0, 0, -1)]]
+WEBS += [((2, (LOOP, edge)), 1) for edge in [(True, 0, 0), (1, False, 0), (1, 0, True), ("1", 0, 0), (1, None, 0)]]
+WEBS += [((2, (LOOP, edge)), 1) for edge in [(1, 0, (0,)), (1, 0, [0]), (1, {}, 0), (10 ** 30, 0, 0), LOOP]]
+WEBS += [((2, ((0, 1, 0), (0, 0, 3))), 1), ((2, ((1, 0, 0), (0, 1, 1))), 1), ((0, (LOOP,)), 0)]
+WEBS += [((2, ((0, 0, 1), (0, 0, 2), (0, 0, 1), None)), 2), ((2, (LOOP, (0, 0, 1), (0, 0, 1), (0, 0, 9))), 2)]
+WEBS += [((2, tuple((0, 0, a) for a in range(4)) + (None,) * 96), 4), ((1, (LOOP,) * 100), 1)]
+
+WORDS = [(value, None) for value in ODD + [0, 1, [0, 1], (4,), (-1,), (0, True), (False,), ("0",), (0, None)]]
+WORDS += [((0,) * 61, None), ((0, (1,)), None), (([],), None), ((0, 1, 10 ** 30), None), (({},), None)]
+
+
+def lengths(low, high):
+    """Return values that are not integers from low to high."""
+    return [(value, None) for value in ODD + [low - 1, high + 1, (low,), [low], {low: low}, str(low), -10 ** 30]]
+
+
+POLYNOMIALS = [(value, None) for value in ODD + [0, 1, (), (0,), (-1,), (2,), (0, 1), (1, 0), (1, 1, 0), [1, 1]]]
+POLYNOMIALS += [((1, value), None) for value in ["1", True, None, (1,), [1], {}, 1000001, -1000001, 10 ** 30]]
+POLYNOMIALS += [((1,) + (0,) * 40 + (1,), None), ((True,), None), ((True, 1), None), ((1, False, 1), None)]
+
+TEXTS = [(value, None) for value in ODD + [0, 2, ("0",), ["0"]] if not isinstance(value, str)]
+
+BARS = [(value, None) for value in ODD + [0, 1, [(1,)], ((0,),) * 9]]
+BARS += [((value,), 0) for value in ODD + [0, (), (2,), (0, 2), (-1,), (0,) * 5, (True,), (0, False), [0], ("0",)]]
+BARS += [(((0,), value), 1) for value in ODD + [0, (), (1, 2), (0, 1, 0, 1, 0), (None,), ((0,),), [1]]]
+BARS += [(((1, 1, 1, 1), (0,), (0,), (3,)), 3), (((0,),) * 7 + ((),), 7), (((), (), ()), 0)]
+
+KINDS = {
+    "web": (BadWeb, WEBS, (2, ((0, 0, 0), (0, 1, 1), (1, 0, 0)))),
+    "word": (BadWord, WORDS, (0, 1)),
+    "length 0 to 8": (BadLength, lengths(0, 8), 3),
+    "text": (NotText, TEXTS, "0"),
+    "letters": (BadLetters, lengths(1, 3), 2),
+    "bars": (BadBars, BARS, ((1, 1),)),
+    "length 0 to 200": (BadLength, lengths(0, 200), 5),
+    "length 1 to 60": (BadLength, lengths(1, 60), 5),
+    "length 0 to 60": (BadLength, lengths(0, 60), 5),
+    "length 0 to 12": (BadLength, lengths(0, 12), 5),
+    "polynomial": (BadPolynomial, POLYNOMIALS, (1, -1, -1)),
+}
