@@ -3,6 +3,7 @@
 from shiftcore.checks import is_between, is_word
 from shiftcore.ends import LABELS
 from shiftcore.errors import BadBars, BadLetters, TooMany
+from shiftcore.graphs import longest_walk
 from shiftcore.readers import reader
 from shiftcore.webs import trimmed
 
@@ -61,31 +62,7 @@ def step(web):
 
 def _steps_apart(rows):
     """Return the least number of labels behind which it does not matter what was read before, or None."""
-    nexts = _unlike_pairs(rows)
-    waiting = {pair: 0 for pair in nexts}
-    for pair in nexts:
-        for there in nexts[pair]:
-            waiting[there] += 1
-    ready = [pair for pair in nexts if waiting[pair] == 0]
-    many = 0
-    left = len(nexts)
-    # Pairs are taken away layer by layer; those on or behind a closed walk of pairs stay.
-    while ready:
-        many += 1
-        left -= len(ready)
-        ready = _next_layer(ready, nexts, waiting)
-    return many if left == 0 else None
-
-
-def _next_layer(ready, nexts, waiting):
-    """Return the pairs that wait for no other pair any more once those that are ready are taken away."""
-    layer = []
-    for pair in ready:
-        for there in nexts[pair]:
-            waiting[there] -= 1
-            if waiting[there] == 0:
-                layer.append(there)
-    return layer
+    return longest_walk(_unlike_pairs(rows))
 
 
 def _unlike_pairs(rows):

@@ -1,11 +1,13 @@
 """The checks of arguments that several files share. True and False are not integers here."""
 
-from shiftcore.errors import BadLength, BadWeb, BadWord
+from shiftcore.errors import BadLength, BadMatrix, BadState, BadWeb, BadWord
 
 MOST_STATES = 32
 MOST_EDGES = 100
 MOST_LABEL = 3
 LONGEST_WORD = 60
+MOST_ROWS = 6
+MOST_ENTRY = 20
 
 
 def is_between(value, low, high):
@@ -14,7 +16,7 @@ def is_between(value, low, high):
 
 
 def is_word(value, least, most, letters):
-    """Return whether a value is a tuple of least to most integers, each below the number of letters."""
+    """Return whether a value is a tuple of least to most integers from 0 on, each below the number of letters."""
     if not isinstance(value, tuple) or not least <= len(value) <= most:
         return False
     return all(is_between(letter, 0, letters - 1) for letter in value)
@@ -54,3 +56,18 @@ def check_length(length, low, high):
     """Raise BadLength unless a value is an integer from low to high."""
     if not is_between(length, low, high):
         raise BadLength("not such a length")
+
+
+def check_matrix(matrix):
+    """Raise BadMatrix unless a value is a matrix."""
+    if not isinstance(matrix, tuple) or not 1 <= len(matrix) <= MOST_ROWS:
+        raise BadMatrix("not a tuple of 1 to 6 rows")
+    for row in matrix:
+        if not is_word(row, len(matrix), len(matrix), MOST_ENTRY + 1):
+            raise BadMatrix("not as many integers from 0 to 20 as rows")
+
+
+def check_state(state, many):
+    """Raise BadState unless a value is one of so many states."""
+    if not is_between(state, 0, many - 1):
+        raise BadState("not such a state")

@@ -53,3 +53,31 @@ def common_length(many, arrows):
     for start, end in arrows:
         divisor = gcd(divisor, far[start] + 1 - far[end])
     return divisor
+
+
+def longest_walk(nexts):
+    """Return the number of nodes on the longest walk, or None if walks have no end; each node has its next ones."""
+    waiting = {node: 0 for node in nexts}
+    for node in nexts:
+        for there in nexts[node]:
+            waiting[there] += 1
+    ready = [node for node in nexts if waiting[node] == 0]
+    many = 0
+    left = len(nexts)
+    # Nodes are taken away layer by layer; those on or behind a closed walk stay.
+    while ready:
+        many += 1
+        left -= len(ready)
+        ready = _next_layer(ready, nexts, waiting)
+    return many if left == 0 else None
+
+
+def _next_layer(ready, nexts, waiting):
+    """Return the nodes that wait for no other node any more once those that are ready are taken away."""
+    layer = []
+    for node in ready:
+        for there in nexts[node]:
+            waiting[there] -= 1
+            if waiting[there] == 0:
+                layer.append(there)
+    return layer

@@ -21,13 +21,13 @@ def is_whole(web):
 
 def period(web):
     """Return the greatest common divisor of the lengths of all closed walks of a whole web."""
-    core = _whole(web)
+    core = whole_core(web)
     return common_length(core[0], _arrows(core))
 
 
 def turns(web):
     """Return the tuples of states that a whole web goes through in turn, the one with state 0 first."""
-    core = _whole(web)
+    core = whole_core(web)
     many = common_length(core[0], _arrows(core))
     far = distances(core[0], _arrows(core))
     rows = [[] for _ in range(many)]
@@ -36,7 +36,7 @@ def turns(web):
     return tuple([tuple(row) for row in rows])
 
 
-def _whole(web):
+def whole_core(web):
     """Return the essential web of a web, which must be whole."""
     if not is_whole(web):
         raise NotWhole("not exactly one part with all states")

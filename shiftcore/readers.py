@@ -1,10 +1,9 @@
 """Readers, the words that tell shifts apart, and the covers of whole webs (points 7 and 8)."""
 
 from shiftcore.checks import check_web
-from shiftcore.ends import LABELS, all_bits, follow
-from shiftcore.errors import NotWhole, TooMany
+from shiftcore.ends import LABELS, all_bits, least_set, sets_met
 from shiftcore.graphs import common_length
-from shiftcore.parts import is_whole
+from shiftcore.parts import whole_core
 from shiftcore.tables import counted_from, label_arrows, set_table, smallest, table_arrows
 from shiftcore.webs import essential
 
@@ -87,30 +86,12 @@ def is_mixing(web):
 
 def _whole_reader(web):
     """Return the reader of a web, which must be whole."""
-    if not is_whole(web):
-        raise NotWhole("not exactly one part with all states")
-    return reader(web)
+    return smallest(set_table(whole_core(web)))
 
 
 def _magic(rows):
     """Return the magic word of the reader of a whole web, and the state behind it."""
-    if len(rows) == 1:
-        return (), 0
-    arrows = label_arrows(rows)
-    queue = [((), all_bits(len(rows)))]
-    met = {queue[0][1]: True}
-    at = 0
-    # A whole web has a magic word; so this ends.
-    while True:
-        word, here = queue[at]
-        for label, pairs in enumerate(arrows):
-            there = follow(pairs, here)
-            if there == 0 or there in met:
-                continue
-            if len(met) == MOST_TRIED:
-                raise TooMany(MOST_TRIED)
-            met[there] = True
-            if there & (there - 1) == 0:
-                return (*word, label), there.bit_length() - 1
-            queue.append(((*word, label), there))
-        at += 1
+    met = sets_met(label_arrows(rows), all_bits(len(rows)), 1, MOST_TRIED)
+    # A whole web has a magic word; so the least set has one state.
+    here = least_set(met)
+    return met[here], here.bit_length() - 1

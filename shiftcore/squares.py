@@ -1,4 +1,4 @@
-"""Square matrices of integers as lists of rows: traces of powers and characteristic polynomials."""
+"""Square matrices of integers as rows: traces of powers, characteristic polynomials and diagonal forms."""
 
 
 def empty_square(many):
@@ -40,3 +40,50 @@ def characteristic(rows):
     while found[-1] == 0:
         found.pop()
     return tuple(found)
+
+
+def diagonal_of(rows):
+    """Return the positive numbers, each a divisor of the next one, that are left on a diagonal of zeros elsewhere.
+
+    Multiples of rows or columns are added to others, and they change places; so the group of all rows of integers
+    modulo the sums of these rows stays the same.
+    """
+    rest = [list(row) for row in rows]
+    found = []
+    while any([any(row) for row in rest]):
+        rest = _turned(_first_subtracted(_least_first(rest)))
+        rest = _first_subtracted(rest)
+        if any(rest[0][1:]) or any([row[0] for row in rest[1:]]):
+            # What is left there is nearer to 0 than the first entry, so that this cannot go on for ever.
+            continue
+        pivot = rest[0][0]
+        odd = [row for row in rest[1:] if any([entry % pivot for entry in row])]
+        if odd:
+            rest[0] = [pivot, *odd[0][1:]]
+        else:
+            found.append(abs(pivot))
+            rest = [row[1:] for row in rest[1:]]
+    return found
+
+
+def _least_first(rows):
+    """Return rows with an entry that is nearest to 0, but not 0, brought to the first row and column."""
+    places = [(abs(entry), at, by) for at, row in enumerate(rows) for by, entry in enumerate(row) if entry != 0]
+    _, top, side = min(places)
+    ordered = [rows[top], *rows[:top], *rows[top + 1:]]
+    return [[row[side], *row[:side], *row[side + 1:]] for row in ordered]
+
+
+def _first_subtracted(rows):
+    """Return rows with the first one subtracted from the others until their first entries are remainders."""
+    first = rows[0]
+    found = [first]
+    for row in rows[1:]:
+        factor = row[0] // first[0]
+        found.append([entry - factor * by for entry, by in zip(row, first)])
+    return found
+
+
+def _turned(rows):
+    """Return the columns as rows."""
+    return [list(column) for column in zip(*rows)]

@@ -74,14 +74,20 @@ def joint(one, other):
     right_many, right_edges = trimmed(other[1])
     if left_many * right_many > MOST_STATES:
         raise TooMany(MOST_STATES)
+    edges = pair_edges(left_edges, right_edges, right_many)
+    if len(edges) > MOST_EDGES:
+        raise TooMany(MOST_EDGES)
+    return trimmed(sorted(edges))
+
+
+def pair_edges(left_edges, right_edges, right_many):
+    """Return the edges between pairs of states, where both have edges with one label; the pairs are counted."""
     edges = []
     for left in left_edges:
         for right in right_edges:
             if left[2] == right[2]:
                 edges.append((left[0] * right_many + right[0], left[1] * right_many + right[1], left[2]))
-    if len(edges) > MOST_EDGES:
-        raise TooMany(MOST_EDGES)
-    return trimmed(sorted(edges))
+    return edges
 
 
 def union(one, other):

@@ -26,6 +26,32 @@ READER_41 = (8, (
     (0, 2, 0), (0, 2, 2), (0, 7, 1), (1, 0, 1), (2, 0, 2), (2, 3, 2), (3, 0, 0), (3, 1, 1), (3, 4, 2),
     (4, 0, 1), (4, 4, 2), (4, 6, 0), (4, 6, 1), (5, 3, 1), (5, 6, 2), (6, 4, 0), (6, 7, 1), (7, 0, 2),
     (7, 2, 2), (7, 4, 2), (7, 5, 1)))
+# Whole resolving webs; 2000 and 2001 sets of ends are met with the set of one state that is met at last.
+# (In the first one a greater label behind the same word would lead to one set more.)
+ENDS_2000 = (11, (
+    (0, 0, 0), (0, 1, 1), (0, 6, 2), (1, 1, 0), (1, 2, 1), (1, 2, 2), (2, 2, 0), (2, 3, 1), (2, 10, 2), (3, 0, 2),
+    (3, 3, 0), (3, 4, 1), (4, 4, 0), (4, 5, 1), (4, 8, 2), (5, 5, 0), (5, 6, 1), (5, 9, 2), (6, 5, 2), (6, 6, 0),
+    (6, 7, 1), (7, 6, 0), (7, 7, 2), (7, 8, 1), (8, 4, 2), (8, 8, 0), (8, 9, 1), (9, 3, 2), (9, 9, 0), (9, 10, 1),
+    (10, 0, 0), (10, 0, 1), (10, 1, 2)))
+ENDS_2001 = (11, (
+    (0, 0, 0), (0, 0, 2), (0, 1, 1), (1, 1, 0), (1, 2, 1), (1, 8, 2), (2, 2, 0), (2, 2, 2), (2, 3, 1), (3, 1, 2),
+    (3, 3, 0), (3, 4, 1), (4, 5, 0), (4, 5, 1), (4, 6, 2), (5, 5, 0), (5, 6, 1), (5, 7, 2), (6, 6, 0), (6, 7, 1),
+    (7, 7, 0), (7, 8, 1), (7, 9, 2), (8, 8, 0), (8, 9, 1), (8, 10, 2), (9, 5, 2), (9, 9, 0), (9, 10, 1), (10, 0, 0),
+    (10, 0, 1), (10, 3, 2)))
+
+
+def slow(many, twins=1):
+    """Return a web whose label 1 turns its states, and whose label 0 leads the last one to the first one alone.
+
+    If there are twins, each state is one of two, and label 1 goes from one half to the other.
+    """
+    edges = []
+    for half in range(twins):
+        for state in range(many):
+            first = (state + 1) % many if state == many - 1 else state
+            edges.append((state + many * half, first + many * half, 0))
+            edges.append((state + many * half, (state + 1) % many + many * ((half + 1) % twins), 1))
+    return many * twins, tuple(sorted(edges))
 
 
 def marked(gaps):

@@ -3,7 +3,7 @@
 import unittest
 from copy import deepcopy
 
-from shiftcore import bars, counting, errors, growth, parts, readers, webs, webtext
+from shiftcore import bars, codes, counting, errors, growth, machines, matrices, moves, parts, readers, webs, webtext
 from tests import wrong
 
 FUNCTIONS = [
@@ -38,6 +38,30 @@ FUNCTIONS = [
     (growth.compare_growth, ["web", "web"]),
     (growth.walks_floor, ["web", "length 0 to 12"]),
     (growth.compare_walks, ["web", "web"]),
+    (matrices.is_ring, ["matrix"]),
+    (matrices.cycle_group, ["matrix"]),
+    (matrices.cycle_sign, ["matrix"]),
+    (matrices.same_flow, ["matrix", "matrix"]),
+    (matrices.traces, ["matrix", "length 0 to 40"]),
+    (matrices.edge_polynomial, ["matrix"]),
+    (moves.stretched, ["matrix", "state", "state"]),
+    (moves.split, ["matrix", "state", "split"]),
+    (moves.shows_step, ["matrix", "matrix", "any", "any"]),
+    (moves.amalgamated, ["matrix"]),
+    (moves.same_one_way, ["matrix", "matrix"]),
+    (codes.is_resolving, ["web"]),
+    (codes.delay, ["web"]),
+    (codes.diamond, ["web"]),
+    (codes.shows_diamond, ["web", "any"]),
+    (codes.is_one_to_one, ["web"]),
+    (codes.lifts, ["web", "word of 1"]),
+    (codes.degree, ["web"]),
+    (codes.degree_word, ["web"]),
+    (machines.reset_word, ["machine"]),
+    (machines.pair_word, ["machine", "state", "state"]),
+    (machines.rank, ["machine"]),
+    (machines.rank_word, ["machine"]),
+    (machines.rank_sets, ["machine"]),
 ]
 
 INTERFACE = {
@@ -48,6 +72,10 @@ INTERFACE = {
     "readers": "reader same_shift parting_word stray_word magic_word cover is_mixing",
     "counting": "count_words count_periodic count_orbits zeta power_sums",
     "growth": "growth_floor compare_growth walks_floor compare_walks",
+    "matrices": "is_ring cycle_group cycle_sign same_flow traces edge_polynomial",
+    "moves": "stretched split shows_step amalgamated same_one_way",
+    "codes": "is_resolving delay diamond shows_diamond is_one_to_one lifts degree degree_word",
+    "machines": "reset_word pair_word rank rank_word rank_sets",
 }
 
 
@@ -56,6 +84,11 @@ def is_immutable(value):
     if isinstance(value, tuple):
         return all(is_immutable(entry) for entry in value)
     return not isinstance(value, (list, dict))
+
+
+def checked(kinds):
+    """Return the kinds of the arguments that are checked; those that may be any values stand behind them."""
+    return [kind for kind in kinds if kind != "any"]
 
 
 class Arguments(unittest.TestCase):
@@ -73,7 +106,7 @@ class Arguments(unittest.TestCase):
     def test_wrong_values_in_each_place(self):
         for function, kinds in FUNCTIONS:
             good = [wrong.KINDS[kind][2] for kind in kinds]
-            for place, kind in enumerate(kinds):
+            for place, kind in enumerate(checked(kinds)):
                 for value, index in wrong.KINDS[kind][1]:
                     with self.subTest(function=function.__name__, place=place, value=value):
                         values = good[:place] + [deepcopy(value)] + good[place + 1:]
@@ -81,13 +114,23 @@ class Arguments(unittest.TestCase):
 
     def test_leftmost_error_first(self):
         for function, kinds in FUNCTIONS:
-            for place, kind in enumerate(kinds[:-1]):
+            for place, kind in enumerate(checked(kinds)[:len(kinds) - 1]):
                 good = [wrong.KINDS[before][2] for before in kinds[:place]]
                 for value, index in wrong.KINDS[kind][1]:
                     for behind in range(5):
                         rest = [wrong.KINDS[other][1][3 * behind][0] for other in kinds[place + 1:]]
                         with self.subTest(function=function.__name__, place=place, value=value, rest=rest):
                             self.check_raises(function, good + [value] + rest, kind, index)
+
+    def test_any_value_is_answered(self):
+        for function, kinds in FUNCTIONS:
+            good = [wrong.KINDS[kind][2] for kind in kinds]
+            for place in range(len(checked(kinds)), len(kinds)):
+                for value, _ in wrong.KINDS["any"][1]:
+                    with self.subTest(function=function.__name__, place=place, value=value):
+                        values = good[:place] + [deepcopy(value)] + good[place + 1:]
+                        self.assertIs(function(*values), False)
+                        self.assertEqual(repr(values), repr(good[:place] + [value] + good[place + 1:]))
 
     def test_good_values_stand_in_all_functions(self):
         for function, kinds in FUNCTIONS:
@@ -102,10 +145,11 @@ class Arguments(unittest.TestCase):
         for function, kinds in FUNCTIONS:
             with self.subTest(function=function.__name__):
                 values = [wrong.KINDS[kind][2] for kind in kinds]
+                last = len(checked(kinds)) - 1
                 answer = function(*values)
-                for value, _ in wrong.KINDS[kinds[-1]][1][:20]:
+                for value, _ in wrong.KINDS[kinds[last]][1][:20]:
                     with self.assertRaises(errors.ShiftError):
-                        function(*values[:-1], value)
+                        function(*values[:last], value, *values[last + 1:])
                 self.assertEqual(answer, function(*values))
 
     def test_functions_stand_in_the_files_of_the_interface(self):

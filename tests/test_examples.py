@@ -48,7 +48,29 @@ GROWTH = """
 >>> [growth_floor(golden, 6), compare_growth(golden, (2, ((0, 0, 1), (0, 1, 0), (1, 0, 0))))]
 [1618033, 0]
 """
-EXAMPLES = [WEBS, PARTS, WEBTEXT, WEBTEXT_ERROR, BARS, READERS, COUNTING, GROWTH]
+MATRICES = """
+>>> from shiftcore.matrices import cycle_group, cycle_sign, edge_polynomial, same_flow, traces
+>>> [cycle_group(((1, 2), (2, 1))), cycle_group(((1,),)), cycle_sign(((2,),)), same_flow(((2,),), ((1, 1), (1, 0))), edge_polynomial(((1, 1), (1, 0))), traces(((1, 1), (1, 0)), 5)]
+[((2, 2), 0), ((), 1), -1, True, (1, -1, -1), (1, 3, 4, 7, 11)]
+"""
+MOVES = """
+>>> from shiftcore.moves import amalgamated, split, stretched
+>>> [amalgamated(((1, 1), (1, 1))), split(((2,),), 0, (1,)), stretched(((2,),), 0, 0)]
+[((2,),), ((1, 1), (1, 1)), ((1, 1), (1, 0))]
+"""
+CODES = """
+>>> from shiftcore.codes import degree, degree_word, delay, lifts, shows_diamond
+>>> turn = (2, ((0, 1, 0), (0, 1, 1), (1, 0, 0), (1, 0, 1)))
+>>> late = (3, ((0, 1, 0), (0, 2, 0), (1, 0, 1), (2, 0, 2)))
+>>> [degree(turn), degree_word(turn), lifts(turn, (0,)), delay(late), shows_diamond((2, ((0, 0, 0), (0, 1, 0), (1, 0, 0))), ((0, 0), (1, 2)))]
+[2, (), 2, 1, True]
+"""
+MACHINES = """
+>>> from shiftcore.machines import rank, rank_sets, reset_word
+>>> [reset_word(((1, 1), (2, 1), (3, 2), (0, 3))), rank(((1,), (0,))), rank_sets(((0, 1), (0, 1)))]
+[(1, 0, 0, 0, 1, 0, 0, 0, 1), 2, ((0,), (1,))]
+"""
+EXAMPLES = [WEBS, PARTS, WEBTEXT, WEBTEXT_ERROR, BARS, READERS, COUNTING, GROWTH, MATRICES, MOVES, CODES, MACHINES]
 
 
 def outcome(text, names):

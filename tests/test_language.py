@@ -175,7 +175,7 @@ class Language(unittest.TestCase):
             if node.func.id in BUILTINS:
                 keywords = {keyword.arg for keyword in node.keywords}
                 self.assertLessEqual(keywords, {"key", "reverse", "default", "start", "strict"}, f"{where} L22")
-            is_view = node.func.id in ("range", "zip", "enumerate", "reversed")
+            is_view = node.func.id in ("range", "zip", "enumerate", "reversed", *LIBRARY["itertools"].split())
             if is_view and not isinstance(above, (ast.For, ast.comprehension)):
                 self.assertIsInstance(above, ast.Call, f"{where} L23")
                 self.assertIn(above.func.id, AT_ONCE, f"{where} L23")

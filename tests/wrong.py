@@ -1,6 +1,7 @@
 """Values that are not allowed, of every kind that point 1 names, and what is raised for them."""
 
-from shiftcore.errors import BadBars, BadLength, BadLetters, BadPolynomial, BadWeb, BadWord, NotText
+from shiftcore.errors import (BadBars, BadLength, BadLetters, BadMachine, BadMatrix, BadPolynomial, BadSplit,
+                              BadState, BadWeb, BadWord, NotText)
 
 ODD = [-1, 10 ** 30, "", "a", "0", True, False, None, [], [1], {}, {"a": 1}, {0: (0, ())}]
 LOOP = (0, 0, 0)
@@ -40,6 +41,27 @@ BARS += [((value,), 0) for value in ODD + [0, (), (2,), (0, 2), (-1,), (0,) * 5,
 BARS += [(((0,), value), 1) for value in ODD + [0, (), (1, 2), (0, 1, 0, 1, 0), (None,), ((0,),), [1]]]
 BARS += [(((1, 1, 1, 1), (0,), (0,), (3,)), 3), (((0,),) * 7 + ((),), 7), (((), (), ()), 0)]
 
+MATRICES = [(value, None) for value in ODD + [0, 1, (), (1,), ((),), [[1]], [(1,)], ([1],), ((1, 0),), ((1,), (0,))]]
+MATRICES += [(value, None) for value in [((1, 0), (0,)), ((1, 0), [0, 1]), ((1, 0), 1), ((0,) * 7,) * 7, (None,)]]
+MATRICES += [(((value,),), None) for value in ODD + [21, (1,), 10 ** 9]]
+MATRICES += [(((1, 2), (3, value)), None) for value in ODD + [21, (0,)]]
+MATRICES += [(((value, 2), (3, 0)), None) for value in (-1, 21, True, False, None, "1")]
+
+# For the matrix and the machine of two states below.
+STATES = [(value, None) for value in ODD + [2, 3, (0,), [0], {0: 0}, "1", -2]]
+
+# For the row (2, 1).
+SPLITS = [(value, None) for value in ODD + [0, 1, (), (1,), (2, 1), (0, 0), (3, 0), (0, 2), (-1, 1), (1, -1)]]
+SPLITS += [(value, None) for value in [(1, 0, 0), [1, 0], (True, 0), (1, False), (None, 1), ("1", 0), ((1,), 0)]]
+SPLITS += [((2, 10 ** 30), None), ((1, [0]), None), ((False, False), None), ((2, True), None)]
+
+MACHINES = [(value, None) for value in ODD + [0, 1, (), (0,), ((),), ((), ()), [(0,)], ([0],), ((0, 0, 0, 0),)]]
+MACHINES += [(value, None) for value in [((0,),) * 9, ((0,), (0, 1)), ((0, 1), (1,)), ((0,), [0]), ((0,), 0)]]
+MACHINES += [(((0, 1), (1, value)), None) for value in ODD + [2, (0,)]]
+MACHINES += [(((value,),), None) for value in ODD + [1, (0,)]]
+
+ANYTHING = [(value, None) for value in ODD + [0, 1, (), (1,), ((),), ((1,),), ((0, 1), (1, 0)), ((None,), ([],))]]
+
 KINDS = {
     "web": (BadWeb, WEBS, (2, ((0, 0, 0), (0, 1, 1), (1, 0, 0)))),
     "word": (BadWord, WORDS, (0, 1)),
@@ -52,4 +74,11 @@ KINDS = {
     "length 0 to 60": (BadLength, lengths(0, 60), 5),
     "length 0 to 12": (BadLength, lengths(0, 12), 5),
     "polynomial": (BadPolynomial, POLYNOMIALS, (1, -1, -1)),
+    "matrix": (BadMatrix, MATRICES, ((2, 1), (1, 0))),
+    "length 0 to 40": (BadLength, lengths(0, 40), 5),
+    "state": (BadState, STATES, 0),
+    "split": (BadSplit, SPLITS, (1, 0)),
+    "any": (None, ANYTHING, ((0, 1), (1, 0))),
+    "word of 1": (BadWord, WORDS + [((), None)], (0, 1)),
+    "machine": (BadMachine, MACHINES, ((1, 1), (0, 1))),
 }
