@@ -19,10 +19,10 @@ def web_of_bars(letters, bars):
         raise BadLetters("not a number of letters from 1 to 3")
     _check_bars(bars, letters)
     longest = max([len(bar) for bar in bars], default=1)
-    states = _all_words(letters, longest - 1)
+    states = all_words(letters, longest - 1)
     number = {state: at for at, state in enumerate(states)}
     edges = []
-    for word in _all_words(letters, longest):
+    for word in all_words(letters, longest):
         if not any(_stands_in(bar, word) for bar in bars):
             edges.append((number[word[:-1]], number[word[1:]], word[-1]))
     return trimmed(sorted(edges))
@@ -37,7 +37,7 @@ def _check_bars(bars, letters):
             raise BadBars(at)
 
 
-def _all_words(letters, length):
+def all_words(letters, length):
     """Return all words of a length, in ascending order."""
     found = [()]
     for _ in range(length):

@@ -1,6 +1,6 @@
 """The checks of arguments that several files share. True and False are not integers here."""
 
-from shiftcore.errors import BadLength, BadMatrix, BadState, BadWeb, BadWord
+from shiftcore.errors import BadLength, BadMatrix, BadNumber, BadState, BadWeb, BadWord
 
 MOST_STATES = 32
 MOST_EDGES = 100
@@ -56,6 +56,12 @@ def check_length(length, low, high):
     """Raise BadLength unless a value is an integer from low to high."""
     if not is_between(length, low, high):
         raise BadLength("not such a length")
+
+
+def check_number(number, low, high):
+    """Raise BadNumber unless a value is an integer from low to high."""
+    if not is_between(number, low, high):
+        raise BadNumber("not such a number")
 
 
 def check_matrix(matrix):

@@ -8,7 +8,7 @@ from shiftcore.errors import BadPolynomial, TooMany
 from shiftcore.graphs import closed_parts
 from shiftcore.polynomials import common_factor, product_of, quotient_of
 from shiftcore.readers import reader
-from shiftcore.squares import characteristic, empty_square, power_traces
+from shiftcore.squares import characteristic, empty_square, least_counts, power_traces
 from shiftcore.tables import renamed, table_arrows
 
 LONGEST_WORD = 200
@@ -40,10 +40,7 @@ def count_orbits(web, length):
     """Return the number of classes of sequences whose least period is `length`."""
     check_web(web)
     check_length(length, 1, LONGEST_PERIOD)
-    exact = []
-    for n, total in enumerate(_periodic_counts(web, length), start=1):
-        exact.append(total - sum(exact[k - 1] for k in range(1, n) if n % k == 0))
-    return exact[-1] // length
+    return least_counts(_periodic_counts(web, length))[-1] // length
 
 
 def _periodic_counts(web, length):

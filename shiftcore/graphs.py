@@ -27,6 +27,11 @@ def closed_parts(many, arrows):
     return tuple(found)
 
 
+def is_one_part(many, arrows):
+    """Return whether there are states, and walks of at least one arrow lead from each state to each state."""
+    return closed_parts(many, arrows) == (tuple(range(many)),)
+
+
 def distances(many, arrows):
     """Return the least numbers of arrows from state 0 to all states, which it must reach."""
     nexts = [[] for _ in range(many)]

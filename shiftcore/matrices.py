@@ -2,7 +2,7 @@
 
 from shiftcore.checks import check_length, check_matrix
 from shiftcore.errors import NotWhole
-from shiftcore.graphs import closed_parts
+from shiftcore.graphs import is_one_part
 from shiftcore.squares import characteristic, diagonal_of, power_traces
 
 LONGEST_WALK = 40
@@ -16,9 +16,8 @@ def is_ring(matrix):
 
 def _is_whole(matrix):
     """Return whether walks of at least one edge lead from every state to every state."""
-    states = list(range(len(matrix)))
-    arrows = [(start, end) for start in states for end in states if matrix[start][end] > 0]
-    return closed_parts(len(matrix), arrows) == (tuple(states),)
+    arrows = [(start, end) for start, row in enumerate(matrix) for end, entry in enumerate(row) if entry > 0]
+    return is_one_part(len(matrix), arrows)
 
 
 def cycle_group(matrix):

@@ -2,7 +2,7 @@
 
 from shiftcore.checks import check_web
 from shiftcore.errors import NotWhole
-from shiftcore.graphs import closed_parts, common_length, distances
+from shiftcore.graphs import closed_parts, common_length, distances, is_one_part
 from shiftcore.webs import essential
 
 
@@ -15,8 +15,7 @@ def parts(web):
 def is_whole(web):
     """Return whether the essential web has exactly one part, with all its states."""
     core = essential(web)
-    found = closed_parts(core[0], _arrows(core))
-    return len(found) == 1 and len(found[0]) == core[0]
+    return is_one_part(core[0], _arrows(core))
 
 
 def period(web):

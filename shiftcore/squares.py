@@ -29,6 +29,14 @@ def _times(row, sparse):
     return product
 
 
+def least_counts(counts):
+    """Return, from the numbers of things with the periods 1, 2, .., how many have each one as their least period."""
+    least = []
+    for n, count in enumerate(counts, start=1):
+        least.append(count - sum(least[k - 1] for k in range(1, n) if n % k == 0))
+    return least
+
+
 def characteristic(rows):
     """Return the coefficients of the determinant of I - t A, from the constant one on, for a matrix A."""
     traces = power_traces(rows, len(rows))

@@ -3,7 +3,8 @@
 import unittest
 from copy import deepcopy
 
-from shiftcore import bars, codes, counting, errors, growth, machines, matrices, moves, parts, readers, webs, webtext
+from shiftcore import (bars, codes, counting, errors, forcing, growth, machines, matrices, moves, parts, patterns,
+                       readers, roads, rules, webs, webtext)
 from tests import wrong
 
 FUNCTIONS = [
@@ -62,6 +63,25 @@ FUNCTIONS = [
     (machines.rank, ["machine"]),
     (machines.rank_word, ["machine"]),
     (machines.rank_sets, ["machine"]),
+    (roads.coloring, ["roads"]),
+    (roads.shows_coloring, ["roads", "any"]),
+    (roads.weights, ["roads"]),
+    (rules.image, ["rule", "word of 2"]),
+    (rules.rule_web, ["rule"]),
+    (rules.composed, ["rule", "rule"]),
+    (rules.orphan, ["rule"]),
+    (rules.current, ["rule", "letter weights"]),
+    (rules.still_web, ["rule", "length 0 to 1"]),
+    (patterns.pattern_web, ["pattern"]),
+    (patterns.mirror, ["pattern"]),
+    (patterns.doubled, ["pattern"]),
+    (patterns.comes_before, ["number 1 to 1000000", "number 1 to 1000000"]),
+    (patterns.has_period, ["pattern", "number 1 to 60"]),
+    (patterns.kind, ["pattern"]),
+    (patterns.stefan, ["odd number 3 to 9"]),
+    (patterns.count_cycles, ["pattern", "number 1 to 60"]),
+    (forcing.shown, ["pattern", "number 1 to 6"]),
+    (forcing.forces, ["pattern", "pattern"]),
 ]
 
 INTERFACE = {
@@ -76,6 +96,10 @@ INTERFACE = {
     "moves": "stretched split shows_step amalgamated same_one_way",
     "codes": "is_resolving delay diamond shows_diamond is_one_to_one lifts degree degree_word",
     "machines": "reset_word pair_word rank rank_word rank_sets",
+    "roads": "coloring shows_coloring weights",
+    "rules": "image rule_web composed orphan current still_web",
+    "patterns": "pattern_web mirror doubled comes_before has_period kind stefan count_cycles",
+    "forcing": "shown forces",
 }
 
 

@@ -5,9 +5,10 @@ from itertools import product
 from random import Random
 
 from shiftcore.bars import is_finite_kind, least_bars, step, web_of_bars
-from shiftcore.errors import BadBars, BadLetters, TooMany
+from shiftcore.errors import BadBars, BadLetters
 from shiftcore.readers import same_shift
 from tests import limits, plain, wrong
+from tests.cases import WithLimits
 
 
 def has_bar(word, bars):
@@ -164,7 +165,7 @@ class WebOfBars(unittest.TestCase):
             self.assertEqual(caught.exception.index, index)
 
 
-class FiniteKind(unittest.TestCase):
+class FiniteKind(WithLimits):
     def test_step_by_sets(self):
         for web in plain.SPECIAL + plain.sparse_webs(32, 120, 3, 2, 75) + plain.sparse_webs(33, 80, 4, 3, 55):
             expected = plain_step(web)
@@ -237,18 +238,14 @@ class FiniteKind(unittest.TestCase):
         self.assertEqual(found, ((3,), *wanted))
         self.assertEqual(len(found), 400)
         for gaps in (limits.GAPS_401, (9,), tuple(range(20))):
-            with self.assertRaises(TooMany) as caught:
-                least_bars(limits.marked(gaps))
-            self.assertEqual(caught.exception.most, 400)
+            self.check_too_many(400, least_bars, limits.marked(gaps))
         self.assertEqual(step(limits.marked(limits.GAPS_401)), 9)
 
     def test_too_many_sets(self):
         for function in (is_finite_kind, step, least_bars):
             function(limits.SETS_200)
             for web in (limits.SETS_201, limits.WHOLE_SETS_201):
-                with self.assertRaises(TooMany) as caught:
-                    function(web)
-                self.assertEqual(caught.exception.most, 200)
+                self.check_too_many(200, function, web)
 
 
 if __name__ == "__main__":

@@ -6,11 +6,12 @@ from itertools import product
 from math import lcm
 
 from shiftcore.codes import (degree, degree_word, delay, diamond, is_one_to_one, is_resolving, lifts, shows_diamond)
-from shiftcore.errors import BadWeb, BadWord, NotFinite, NotResolving, NotWhole, TooMany
+from shiftcore.errors import BadWeb, BadWord, NotFinite, NotResolving, NotWhole
 from shiftcore.parts import is_whole
 from shiftcore.readers import cover
 from shiftcore.webs import essential
 from tests import limits, plain
+from tests.cases import WithLimits
 
 TURN = (2, ((0, 1, 0), (0, 1, 1), (1, 0, 0), (1, 0, 1)))
 LATE = (3, ((0, 1, 0), (0, 2, 0), (1, 0, 1), (2, 0, 2)))
@@ -305,7 +306,7 @@ class Lifts(unittest.TestCase):
         self.assertRaises(BadWeb, lifts, (1, ((0, 0, 4),)), ())
 
 
-class Degrees(unittest.TestCase):
+class Degrees(WithLimits):
     def test_by_all_sets(self):
         found = set()
         for web in WHOLE:
@@ -366,16 +367,11 @@ class Degrees(unittest.TestCase):
                 self.assertRaises(NotResolving, function, web)
             self.assertRaises(NotWhole, function, (4, ((0, 0, 0), (0, 1, 0), (1, 2, 0), (2, 2, 0), (2, 2, 1))))
 
-    def check_too_many(self, web):
-        for function in (degree, degree_word):
-            with self.assertRaises(TooMany) as caught:
-                function(web)
-            self.assertEqual(caught.exception.most, 2000)
-
     def test_too_many(self):
         for web in (limits.ENDS_2001, limits.slow(11), limits.slow(12), limits.slow(32), limits.slow(11, 2)):
             self.assertTrue(is_whole(web) and is_resolving(web))
-            self.check_too_many(web)
+            self.check_too_many(2000, degree, web)
+            self.check_too_many(2000, degree_word, web)
         self.assertEqual([degree(limits.ENDS_2000), degree(limits.slow(10)), degree(limits.slow(10, 2))], [1, 1, 2])
         self.assertEqual(len(degree_word(limits.slow(10))), 81)
 

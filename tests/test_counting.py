@@ -5,10 +5,11 @@ from fractions import Fraction
 from random import Random
 
 from shiftcore.counting import count_orbits, count_periodic, count_words, power_sums, zeta
-from shiftcore.errors import BadLength, BadPolynomial, BadWeb, TooMany
+from shiftcore.errors import BadLength, BadPolynomial, BadWeb
 from shiftcore.readers import reader
 from shiftcore.webs import words
 from tests import limits, plain
+from tests.cases import WithLimits
 
 SMALL = plain.SPECIAL[:-1] + plain.sparse_webs(51, 60, 3, 2, 75) + plain.sparse_webs(52, 60, 4, 3, 45)
 
@@ -125,14 +126,7 @@ def factor_degree(one, other):
     return len(left) - 1
 
 
-class Limits(unittest.TestCase):
-    def check_too_many(self, most, function, *values):
-        with self.assertRaises(TooMany) as caught:
-            function(*values)
-        self.assertEqual(caught.exception.most, most)
-
-
-class Words(Limits):
+class Words(WithLimits):
     def test_by_all_words(self):
         for web in SMALL:
             for length in range(5):
@@ -161,7 +155,7 @@ class Words(Limits):
                 count_words(limits.SETS_201, value)
 
 
-class Periodic(Limits):
+class Periodic(WithLimits):
     def test_by_all_words(self):
         for web in SMALL:
             marks = 1 + max([label for _, _, label in web[1]], default=0)
@@ -241,7 +235,7 @@ class Periodic(Limits):
         self.assertEqual(count_orbits(both, 3), 2)
 
 
-class Zeta(Limits):
+class Zeta(WithLimits):
     def check_zeta(self, web):
         top, bottom = zeta(web)
         for poly in (top, bottom):

@@ -70,7 +70,29 @@ MACHINES = """
 >>> [reset_word(((1, 1), (2, 1), (3, 2), (0, 3))), rank(((1,), (0,))), rank_sets(((0, 1), (0, 1)))]
 [(1, 0, 0, 0, 1, 0, 0, 0, 1), 2, ((0,), (1,))]
 """
-EXAMPLES = [WEBS, PARTS, WEBTEXT, WEBTEXT_ERROR, BARS, READERS, COUNTING, GROWTH, MATRICES, MOVES, CODES, MACHINES]
+ROADS = """
+>>> from shiftcore.roads import coloring, weights
+>>> [coloring(((1, 1), (0, 0))), weights(((0, 1), (0, 0)))]
+[None, (2, 1)]
+"""
+RULES = """
+>>> from shiftcore.rules import current, image, orphan
+>>> wide = (2, 3, (0, 1, 1, 0, 1, 0, 0, 1))
+>>> [image(wide, (0, 1, 1, 0, 1)), orphan((2, 2, (0, 0, 0, 1))), orphan((2, 2, (0, 1, 1, 0))), current((2, 2, (0, 1, 0, 1)), (0, 5))]
+[(0, 0, 0), (1, 0, 1), None, (0, -5)]
+"""
+PATTERNS = """
+>>> from shiftcore.patterns import count_cycles, doubled, kind, pattern_web, stefan
+>>> [kind((1, 2, 3, 0)), kind((2, 3, 1, 0)), stefan(5), doubled((1, 0)), pattern_web((1, 2, 0)), [count_cycles((1, 2, 0), k) for k in (1, 2, 3, 4, 5, 6)]]
+[3, 4, (2, 4, 3, 1, 0), (3, 2, 0, 1), (2, ((0, 1, 0), (1, 0, 0), (1, 1, 0))), [1, 1, 1, 1, 2, 2]]
+"""
+FORCING = """
+>>> from shiftcore.forcing import forces, shown
+>>> [shown((1, 2, 0), 1), shown((1, 2, 0), 2), shown((1, 2, 0), 3), forces((1, 2, 0), (1, 0)), forces((1, 0), (1, 2, 0))]
+[((0,),), ((1, 0),), ((1, 2, 0),), True, False]
+"""
+EXAMPLES = [WEBS, PARTS, WEBTEXT, WEBTEXT_ERROR, BARS, READERS, COUNTING, GROWTH, MATRICES, MOVES, CODES, MACHINES,
+            ROADS, RULES, PATTERNS, FORCING]
 
 
 def outcome(text, names):

@@ -4,10 +4,11 @@ import unittest
 from fractions import Fraction
 from itertools import product
 
-from shiftcore.errors import BadLength, BadWeb, TooMany
+from shiftcore.errors import BadLength, BadWeb
 from shiftcore.growth import compare_growth, compare_walks, growth_floor, walks_floor
 from shiftcore.readers import reader
 from tests import limits, plain
+from tests.cases import WithLimits
 
 SMALL = plain.SPECIAL + plain.sparse_webs(61, 50, 3, 2, 80) + plain.sparse_webs(62, 40, 4, 3, 60)
 SMALL += plain.random_webs(63, 30, 5, 4, 2)
@@ -72,7 +73,7 @@ def growth_bounds(arrows):
     return max(low for low, _ in bounds), max(high for _, high in bounds)
 
 
-class Floors(unittest.TestCase):
+class Floors(WithLimits):
     def check_floors(self, function, web, arrows):
         low, high = growth_bounds(arrows)
         for places in (0, 1, 3, 12):
@@ -138,11 +139,6 @@ class Floors(unittest.TestCase):
         web = (32, tuple(sorted(set(chords))))
         self.check_floors(walks_floor, web, walk_arrows(web))
         self.check_floors(growth_floor, limits.READER_40, word_arrows(limits.READER_40))
-
-    def check_too_many(self, most, function, *values):
-        with self.assertRaises(TooMany) as caught:
-            function(*values)
-        self.assertEqual(caught.exception.most, most)
 
     def test_too_many(self):
         self.assertEqual(len(reader(limits.READER_40)), 40)

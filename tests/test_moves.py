@@ -3,10 +3,11 @@
 import unittest
 from random import Random
 
-from shiftcore.errors import BadMatrix, BadSplit, BadState, NotAlive, TooMany
+from shiftcore.errors import BadMatrix, BadSplit, BadState, NotAlive
 from shiftcore.matrices import traces
 from shiftcore.moves import amalgamated, same_one_way, shows_step, split, stretched
 from tests import matrix_ways as ways
+from tests.cases import WithLimits
 from tests.matrix_ways import GOLDEN, HEAVY, MANY, ONE, TRIANGLE, TWO, ZERO, ring_matrix
 
 SMALL = [matrix for matrix in MANY if max(map(max, matrix)) <= 3]
@@ -37,14 +38,7 @@ def amalgams(rows):
     return found
 
 
-class TooManyStates(unittest.TestCase):
-    def check_too_many(self, function, *values):
-        with self.assertRaises(TooMany) as caught:
-            function(*values)
-        self.assertEqual(caught.exception.most, 6)
-
-
-class Stretches(TooManyStates):
+class Stretches(WithLimits):
     def test_edge_by_edge(self):
         for matrix in MANY:
             for start, end in set(ways.edges_of(matrix)):
@@ -69,7 +63,7 @@ class Stretches(TooManyStates):
     def test_too_many(self):
         for matrix in SIX:
             for start, end in set(ways.edges_of(matrix)):
-                self.check_too_many(stretched, matrix, start, end)
+                self.check_too_many(6, stretched, matrix, start, end)
             for state in (6, -1, True, None):
                 self.assertRaises(BadState, stretched, matrix, state, 0)
                 self.assertRaises(BadState, stretched, matrix, 0, state)
@@ -77,7 +71,7 @@ class Stretches(TooManyStates):
         self.assertEqual(len(stretched(ring_matrix(5), 0, 1)), 6)
 
 
-class Splits(TooManyStates):
+class Splits(WithLimits):
     def test_edge_by_edge(self):
         for matrix in SMALL:
             for state, row in enumerate(matrix):
@@ -112,7 +106,7 @@ class Splits(TooManyStates):
         for matrix in SIX:
             for state, row in enumerate(matrix):
                 for first in ways.splits(row)[:3] if max(row) <= 3 else [(1, 0, 0, 0, 0, 0)]:
-                    self.check_too_many(split, matrix, state, first)
+                    self.check_too_many(6, split, matrix, state, first)
                 self.assertRaises(BadSplit, split, matrix, state, row)
                 self.assertRaises(BadSplit, split, matrix, state, (0,) * 6)
             self.assertRaises(BadState, split, matrix, 6, (0,) * 6)

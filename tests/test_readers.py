@@ -4,10 +4,11 @@ import unittest
 from itertools import product
 from math import gcd
 
-from shiftcore.errors import BadWeb, NotWhole, TooMany
+from shiftcore.errors import BadWeb, NotWhole
 from shiftcore.parts import is_whole
 from shiftcore.readers import cover, is_mixing, magic_word, parting_word, reader, same_shift, stray_word
 from tests import limits, plain
+from tests.cases import WithLimits
 
 SMALL = plain.SPECIAL + plain.sparse_webs(41, 60, 3, 2, 75) + plain.sparse_webs(42, 60, 4, 3, 55)
 SMALL += plain.random_webs(43, 40, 4, 4, 2)
@@ -65,14 +66,7 @@ def first_word(is_wanted, labels, most):
     return None
 
 
-class TestsWithLimits(unittest.TestCase):
-    def check_too_many(self, most, function, *values):
-        with self.assertRaises(TooMany) as caught:
-            function(*values)
-        self.assertEqual(caught.exception.most, most)
-
-
-class Reader(TestsWithLimits):
+class Reader(WithLimits):
     def test_reads_the_words_of_the_web(self):
         for web in SMALL:
             rows = reader(web)
@@ -137,7 +131,7 @@ class Reader(TestsWithLimits):
             self.check_too_many(200, reader, web)
 
 
-class Pairs(TestsWithLimits):
+class Pairs(WithLimits):
     def test_same_shift(self):
         for one, other in PAIRS:
             (left, left_edges), (right, right_edges) = plain.core(one), plain.core(other)
@@ -205,7 +199,7 @@ def is_magic(rows, word):
     return len(ends - {None}) == 1
 
 
-class Covers(TestsWithLimits):
+class Covers(WithLimits):
     def test_magic_word_by_all_words(self):
         for web in WHOLE:
             rows = reader(web)

@@ -3,9 +3,10 @@
 import unittest
 from itertools import product
 
-from shiftcore.errors import BadLength, BadWeb, TooMany
+from shiftcore.errors import BadLength, BadWeb
 from shiftcore.webs import essential, joint, reads, union, words
 from tests import plain
+from tests.cases import WithLimits
 
 # Found by search: webs that read just as many words of 7 labels as may be, and one more.
 WORDS_5000 = (4, (
@@ -74,7 +75,7 @@ class Essential(unittest.TestCase):
         self.assertEqual(essential((32, bridge))[0], 16)
 
 
-class Words(unittest.TestCase):
+class Words(WithLimits):
     def test_reads_by_walks(self):
         for web in plain.SPECIAL + plain.random_webs(3, 60, 4, 3, 2):
             for length in range(4):
@@ -116,12 +117,10 @@ class Words(unittest.TestCase):
         self.assertEqual(len(plain.core_words(WORDS_5001, 7)), 5001)
         self.assertEqual(len(words(plain.FULL_FOUR, 6)), 4096)
         for web, length in [(WORDS_5001, 7), (plain.FULL_FOUR, 7), (plain.FULL_FOUR, 8), (HUNDRED, 8)]:
-            with self.assertRaises(TooMany) as caught:
-                words(web, length)
-            self.assertEqual(caught.exception.most, 5000)
+            self.check_too_many(5000, words, web, length)
 
 
-class Pairs(unittest.TestCase):
+class Pairs(WithLimits):
     def test_joint_by_pairs_of_states(self):
         webs = [web for web in plain.SPECIAL if essential(web)[0] <= 5] + plain.random_webs(6, 12, 4, 3, 2)
         for one, other in product(webs, webs):
@@ -141,17 +140,12 @@ class Pairs(unittest.TestCase):
         self.assertEqual(joint(plain.POINT, (1, ((0, 0, 1),))), (0, ()))
         self.assertEqual(joint(plain.FULL, plain.GOLDEN), plain.GOLDEN)
 
-    def check_too_many(self, function, one, other, most):
-        with self.assertRaises(TooMany) as caught:
-            function(one, other)
-        self.assertEqual(caught.exception.most, most)
-
     def test_joint_too_many_pairs(self):
         self.assertEqual(joint(plain.ring(4), plain.ring(8))[0], 32)
         self.assertEqual(joint(plain.POINT, plain.ring(32)), plain.ring(32))
-        self.check_too_many(joint, plain.ring(3), plain.ring(11), 32)
-        self.check_too_many(joint, plain.ring(6), plain.ring(6, 1, 1), 32)
-        self.check_too_many(joint, plain.ring(32), (2, ((0, 0, 1), (1, 1, 1))), 32)
+        self.check_too_many(32, joint, plain.ring(3), plain.ring(11))
+        self.check_too_many(32, joint, plain.ring(6), plain.ring(6, 1, 1))
+        self.check_too_many(32, joint, plain.ring(32), (2, ((0, 0, 1), (1, 1, 1))))
         # Pairs are counted before they are left out, but states outside of the essential webs make none.
         self.assertEqual(joint((32, ((5, 5, 0),)), (32, ((7, 7, 0),))), plain.POINT)
 
@@ -161,17 +155,17 @@ class Pairs(unittest.TestCase):
         self.assertEqual(len(joint(grid, four)[1]), 100)
         self.assertEqual(len(joint(HUNDRED, plain.FULL_FOUR)[1]), 100)
         more = (6, tuple(sorted(grid[1] + ((5, 5, 0),))))
-        self.check_too_many(joint, more, four, 100)
-        self.check_too_many(joint, HUNDRED, (3, ((0, 0, 0), (1, 1, 0), (1, 1, 1), (1, 1, 2), (2, 2, 3))), 100)
+        self.check_too_many(100, joint, more, four)
+        self.check_too_many(100, joint, HUNDRED, (3, ((0, 0, 0), (1, 1, 0), (1, 1, 1), (1, 1, 2), (2, 2, 3))))
         # Edges between pairs that lie on no endless walk count, too.
         self.assertEqual(joint(ladder(5, 1), ladder(5, 2)), (0, ()))
-        self.check_too_many(joint, ladder(5, 1), ladder(6, 2), 100)
+        self.check_too_many(100, joint, ladder(5, 1), ladder(6, 2))
 
     def test_too_many_pairs_come_first(self):
         grid = (6, tuple((s, e, 0) for s in range(6) for e in range(6)))
-        self.check_too_many(joint, grid, grid, 32)
+        self.check_too_many(32, joint, grid, grid)
         full = (20, tuple((s, e, 0) for s in range(20) for e in range(5)))
-        self.check_too_many(union, full, full, 32)
+        self.check_too_many(32, union, full, full)
 
     def test_too_many_comes_behind_the_other_errors(self):
         for function in (joint, union):
@@ -197,11 +191,11 @@ class Pairs(unittest.TestCase):
     def test_union_too_many(self):
         self.assertEqual(union((16, ()), (16, ((15, 15, 3),))), (32, ((31, 31, 3),)))
         self.assertEqual(union(plain.EMPTY, (32, ())), (32, ()))
-        self.check_too_many(union, (16, ()), (17, ()), 32)
-        self.check_too_many(union, (32, ()), (1, ()), 32)
+        self.check_too_many(32, union, (16, ()), (17, ()))
+        self.check_too_many(32, union, (32, ()), (1, ()))
         self.assertEqual(len(union((5, HUNDRED[1][:99]), plain.POINT)[1]), 100)
-        self.check_too_many(union, HUNDRED, plain.POINT, 100)
-        self.check_too_many(union, plain.POINT, HUNDRED, 100)
+        self.check_too_many(100, union, HUNDRED, plain.POINT)
+        self.check_too_many(100, union, plain.POINT, HUNDRED)
 
 
 if __name__ == "__main__":

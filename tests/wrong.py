@@ -1,7 +1,7 @@
 """Values that are not allowed, of every kind that point 1 names, and what is raised for them."""
 
-from shiftcore.errors import (BadBars, BadLength, BadLetters, BadMachine, BadMatrix, BadPolynomial, BadSplit,
-                              BadState, BadWeb, BadWord, NotText)
+from shiftcore.errors import (BadBars, BadLength, BadLetters, BadMachine, BadMatrix, BadNumber, BadPattern,
+                              BadPolynomial, BadRoads, BadRule, BadSplit, BadState, BadWeb, BadWeights, BadWord, NotText)
 
 ODD = [-1, 10 ** 30, "", "a", "0", True, False, None, [], [1], {}, {"a": 1}, {0: (0, ())}]
 LOOP = (0, 0, 0)
@@ -60,6 +60,26 @@ MACHINES += [(value, None) for value in [((0,),) * 9, ((0,), (0, 1)), ((0, 1), (
 MACHINES += [(((0, 1), (1, value)), None) for value in ODD + [2, (0,)]]
 MACHINES += [(((value,),), None) for value in ODD + [1, (0,)]]
 
+ROADS = [(value, None) for value in ODD + [0, 1, (), [(0, 0)], ((0, 0),) * 6]]
+ROADS += [((value,), 0) for value in ODD + [0, 1, (), (0,), (0, 0, 0, 0), [0, 0], (0, 1), (0, True), (False, 0)]]
+ROADS += [(((0, 1), value), 1) for value in ODD + [0, (), (0,), (0, 0, 1), (1, 0), (0, 2), [0, 1], (0, True)]]
+ROADS += [(((0, 1), (0, value)), 1) for value in ODD + [2, (1,)]]
+
+RULES = [(value, None) for value in ODD + [0, (), (2,), (2, 2), (2, 1, (0, 1), 0), [2, 1, (0, 1)]]]
+RULES += [((value, 1, (0, 1)), None) for value in ODD + [0, 1, 3, 4, (2,)]]
+RULES += [((2, value, (0, 1)), None) for value in ODD + [0, 2, 5, 6, (1,)] if value is not True]
+RULES += [((2, True, (0, 1)), None), ((2, 6, (0,) * 64), None), ((2, 1, (0, 0, 0)), None), ((3, 5, (0,) * 242), None)]
+RULES += [((2, 1, value), None) for value in ODD + [0, (), (0,), [0, 1], "01"]]
+RULES += [((2, 1, (0, value)), None) for value in ODD + [2, (0,)]]
+
+LETTER_WEIGHTS = [(value, None) for value in ODD + [0, 1, (), (0,), (0, 0, 0), [0, 1], "01"]]
+LETTER_WEIGHTS += [((0, value), None) for value in ODD + [10, -10, (0,)] if value != -1]
+LETTER_WEIGHTS += [((value, 0), None) for value in (True, False, None, 10, -10)]
+
+PATTERNS = [(value, None) for value in ODD + [0, 1, (), (1,), (0, 1), (1, 1), (1, 0, 2), (1, 2, 1), (2, 2, 0), [1, 0]]]
+PATTERNS += [((1, value), None) for value in ODD + [1, 2, (0,)]]
+PATTERNS += [((1, 2, 3, 4, 5, 6, 7, 8, 9, 0), None), ((True, 0), None), ((2, 3, 0, 1), None), ((False,), None)]
+
 ANYTHING = [(value, None) for value in ODD + [0, 1, (), (1,), ((),), ((1,),), ((0, 1), (1, 0)), ((None,), ([],))]]
 
 KINDS = {
@@ -81,4 +101,14 @@ KINDS = {
     "any": (None, ANYTHING, ((0, 1), (1, 0))),
     "word of 1": (BadWord, WORDS + [((), None)], (0, 1)),
     "machine": (BadMachine, MACHINES, ((1, 1), (0, 1))),
+    "roads": (BadRoads, ROADS, ((0, 1), (0, 0))),
+    "rule": (BadRule, RULES, (2, 2, (0, 1, 0, 1))),
+    "word of 2": (BadWord, WORDS + [((), None), ((0,), None), ((0, 2), None), ((3, 0), None)], (0, 1)),
+    "letter weights": (BadWeights, LETTER_WEIGHTS, (0, 5)),
+    "length 0 to 1": (BadLength, lengths(0, 1), 1),
+    "pattern": (BadPattern, PATTERNS, (1, 2, 0)),
+    "number 1 to 1000000": (BadNumber, lengths(1, 1000000), 5),
+    "number 1 to 60": (BadNumber, lengths(1, 60), 5),
+    "number 1 to 6": (BadNumber, lengths(1, 6), 5),
+    "odd number 3 to 9": (BadNumber, lengths(3, 9) + [(1, None), (4, None), (6, None), (8, None), (11, None)], 5),
 }
