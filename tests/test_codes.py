@@ -210,10 +210,10 @@ class Diamonds(unittest.TestCase):
         self.assertIs(shows_diamond(EYE, ((0, 0, 0, 1), (1, 2, 0, 1))), True)
         self.assertIs(shows_diamond(EYE, ((2, 0, 0), (2, 1, 2))), True)
         for value in [((0, 0), (1, True)), ((False, 0), (1, 2)), ((0, 0), (1, 3)), ((0, 0), (1, -1)), ((0, 0), (2, 1)),
-                      ((0, 0), (1, 2, 0)), ((0, 0, 0), (1, 2)), ((0, 0), "12"), ("00", "12"), (None, (1, 2)), ((0,), (1,)),
-                      ((0, 0), (1, "2")), ((0, 0), (1, (2,))), ((0, 0), (1, None)), ((0, 0), (1, 10 ** 30)), ((), ()),
-                      ((), (0,)), ((0, 0), {0: 1}), 0, "", (), None, ((0, 0), [1, 2]), [(0, 0), (1, 2)], ((0, 1), (1, 2)),
-                      (((0, 0), (1, 2)),), ((0, 0), (1, 2), ())]:
+                      ((0, 0), (1, 2, 0)), ((0, 0, 0), (1, 2)), ((0, 0), "12"), ("00", "12"), (None, (1, 2)),
+                      ((0,), (1,)), ((0, 0), (1, "2")), ((0, 0), (1, (2,))), ((0, 0), (1, None)), ((), ()),
+                      ((0, 0), (1, 10 ** 30)), ((), (0,)), ((0, 0), {0: 1}), 0, "", (), None, ((0, 0), [1, 2]),
+                      [(0, 0), (1, 2)], ((0, 1), (1, 2)), (((0, 0), (1, 2)),), ((0, 0), (1, 2), ())]:
             self.assertIs(shows_diamond(EYE, value), False)
         # The same start, the same labels, and other ends; the same end, and other starts.
         self.assertIs(shows_diamond(BESIDE, ((0,), (1,))), False)
@@ -259,7 +259,8 @@ class OneToOne(unittest.TestCase):
             self.assertIs(is_one_to_one(web), all(len(edges) == 1 for edges in middle.values()))
 
     def test_codes(self):
-        for web in ((0, ()), plain.DEAD, plain.POINT, plain.GOLDEN, plain.FULL_FOUR, LATE, LATER, DEAD_TWIN, plain.SWAP):
+        for web in ((0, ()), plain.DEAD, plain.POINT, plain.GOLDEN, plain.FULL_FOUR, plain.SWAP,
+                    LATE, LATER, DEAD_TWIN):
             self.assertIs(is_one_to_one(web), True)
         for web in (TURN, EYE, SWING, TWICE, plain.EVEN, plain.ring(2), LEFT, LONG_EYE):
             self.assertIs(is_one_to_one(web), False)
@@ -286,7 +287,8 @@ class Lifts(unittest.TestCase):
     def test_lifts(self):
         self.assertEqual([lifts(TURN, (0,)), lifts(TURN, (0, 1, 1)), lifts(TURN, (2,))], [2, 2, 0])
         self.assertEqual([lifts((0, ()), (0,)), lifts(plain.DEAD, (0,))], [0, 0])
-        self.assertEqual([lifts(plain.EVEN, word) for word in ((0,), (1,), (0, 1), (0, 0, 1), (0,) * 60)], [2, 1, 0, 1, 2])
+        self.assertEqual([lifts(plain.EVEN, word) for word in ((0,), (1,), (0, 1), (0, 0, 1), (0,) * 60)],
+                         [2, 1, 0, 1, 2])
         self.assertEqual([lifts(SWING, word) for word in ((0,), (1,), (0, 1))], [2, 2, 2])
         self.assertEqual([lifts(plain.ring(6), (0,) * many) for many in (1, 2, 6, 7)], [6] * 4)
         self.assertEqual([lifts(plain.ring(3, 0, 1), word) for word in ((0, 0, 1), (0, 1, 0), (1,), (0, 0, 1) * 20)],

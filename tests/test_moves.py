@@ -158,7 +158,8 @@ class Steps(unittest.TestCase):
     def test_rows_of_unlike_lengths(self):
         one, left, right = ((2, 1), (1, 1)), ((1, 1), (1, 0)), ((1, 1), (1, 0))
         self.assertIs(shows_step(one, one, left, right), True)
-        for value in [((1, 1), (1, 0, 5)), ((1, 1, 5), (1, 0)), ((1, 1, 0), (1, 0, 0)), ((1, 1), (1,)), ((1, 1), (1, 0), ())]:
+        for value in [((1, 1), (1, 0, 5)), ((1, 1, 5), (1, 0)), ((1, 1, 0), (1, 0, 0)), ((1, 1), (1,)),
+                      ((1, 1), (1, 0), ())]:
             self.assertIs(shows_step(one, one, value, right), False)
             self.assertIs(shows_step(one, one, left, value), False)
 

@@ -39,7 +39,8 @@ LAST = rule_of(2, 5, lambda word: word[4])
 SUM_THREE = rule_of(3, 3, lambda word: sum(word) % 3)
 SMALL = [(2, 1, table) for table in product((0, 1), repeat=2)] + [(2, 2, table) for table in product((0, 1), repeat=4)]
 SMALL += [numbered(number) for number in range(256)]
-THREE = [(3, 1, table) for table in product((0, 1, 2), repeat=3)] + random_rules(1, 40, 3, 2) + random_rules(2, 10, 3, 3)
+THREE = [(3, 1, table) for table in product((0, 1, 2), repeat=3)]
+THREE += random_rules(1, 40, 3, 2) + random_rules(2, 10, 3, 3)
 WIDE = [TRAFFIC, FIRST, LAST, SUM_THREE] + random_rules(3, 10, 2, 4) + random_rules(4, 10, 2, 5)
 WIDEST = random_rules(5, 3, 3, 4) + random_rules(6, 3, 3, 5)
 
@@ -92,7 +93,8 @@ class Images(unittest.TestCase):
     def test_wrong_words(self):
         for rule in (SAME, SUM, TRAFFIC, FIRST, SUM_THREE):
             letters, width, _ = rule
-            for word in [(0,) * 61, (0,) * (width - 1), (letters,) * width, (0,) * width + (-1,), (True,) * width, [0] * 5,
+            for word in [(0,) * 61, (0,) * (width - 1), (letters,) * width, (0,) * width + (-1,), (True,) * width,
+                         [0] * 5,
                          (0,) * width + (False,), "00000", None, (0,) * width + ("0",), ((0,),) * width, (), 0]:
                 self.assertRaises(BadWord, image, rule, word)
                 self.assertRaises(BadRule, image, rule[:2], word)
@@ -100,12 +102,13 @@ class Images(unittest.TestCase):
 
     def test_wrong_rules(self):
         for rule in [(2, 1), (2, 1, (0, 1), 0), [2, 1, (0, 1)], (1, 1, (0,)), (4, 1, (0, 1, 2, 3)), (2, 0, (0,)),
-                     (2, 6, (0,) * 64), (3, 6, (0,) * 729), (2, 1, (0,)), (2, 1, (0, 1, 0)), (2, 1, (0, 2)), (3, 1, (0, 1)),
-                     (2, 1, (0, -1)), (2, 1, [0, 1]), (2, 1, (0, True)), (2, True, (0, 1)), (True, 1, (0,)), ("2", 1, (0, 1)),
-                     (2, "1", (0, 1)), (2, 1, "01"), (None, 1, (0, 1)), (2, 1, None), (2, 2, (0,) * 8), (3, 2, (0,) * 4),
-                     (2, -1, ()), (3, 5, (0,) * 242), (3, 5, (0,) * 244), (3, 1, (0, 1, 3)), (2, 10 ** 9, ()), "abc"]:
-            for function, rest in [(image, (None,)), (rule_web, ()), (composed, (None,)), (orphan, ()), (current, (None,)),
-                                   (still_web, (None,))]:
+                     (2, 6, (0,) * 64), (3, 6, (0,) * 729), (2, 1, (0,)), (2, 1, (0, 1, 0)), (2, 1, (0, 2)),
+                     (3, 1, (0, 1)), (2, 1, (0, -1)), (2, 1, [0, 1]), (2, 1, (0, True)), (2, True, (0, 1)),
+                     (True, 1, (0,)), ("2", 1, (0, 1)), (2, "1", (0, 1)), (2, 1, "01"), (None, 1, (0, 1)), (2, 1, None),
+                     (2, 2, (0,) * 8), (3, 2, (0,) * 4), (2, -1, ()), (3, 5, (0,) * 242), (3, 5, (0,) * 244),
+                     (3, 1, (0, 1, 3)), (2, 10 ** 9, ()), "abc"]:
+            for function, rest in [(image, (None,)), (rule_web, ()), (composed, (None,)), (orphan, ()),
+                                   (current, (None,)), (still_web, (None,))]:
                 self.assertRaises(BadRule, function, rule, *rest)
             self.assertRaises(BadRule, composed, SAME, rule)
         self.assertEqual(image((3, 5, (0,) * 243), (2,) * 5), (0,))
@@ -234,7 +237,8 @@ class Orphans(WithLimits):
     def test_orphans(self):
         for rule in (SAME, SWAP, SUM, NEXT, FIRST, LAST, TURN_THREE, SUM_THREE, numbered(30), numbered(90)):
             self.assertIsNone(orphan(rule))
-        self.assertEqual([orphan((2, 1, (0, 0))), orphan((2, 1, (1, 1))), orphan((3, 1, (0, 2, 2)))], [(1,), (0,), (1,)])
+        self.assertEqual([orphan((2, 1, (0, 0))), orphan((2, 1, (1, 1)))], [(1,), (0,)])
+        self.assertEqual(orphan((3, 1, (0, 2, 2))), (1,))
         self.assertEqual(orphan(BOTH), (1, 0, 1))
         self.assertEqual(orphan(numbered(110)), (0, 1, 0, 1, 0))
 
@@ -302,7 +306,8 @@ class Currents(unittest.TestCase):
         self.assertIsNone(current(TURN_THREE, (2, 2, 3)))
 
     def test_wrong_weights(self):
-        for weights in [(0,), (0, 1, 2), (), (0, 10), (-10, 0), (0, True), (False, 1), [0, 1], "01", None, (0, "1"), (0, None),
+        for weights in [(0,), (0, 1, 2), (), (0, 10), (-10, 0), (0, True), (False, 1), [0, 1], "01", None,
+                        (0, "1"), (0, None),
                         (0, (1,)), {0: 1}, 0, (0, 10 ** 30)]:
             for rule in (SAME, SUM, TRAFFIC):
                 self.assertRaises(BadWeights, current, rule, weights)

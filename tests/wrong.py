@@ -1,7 +1,8 @@
 """Values that are not allowed, of every kind that point 1 names, and what is raised for them."""
 
 from shiftcore.errors import (BadBars, BadLength, BadLetters, BadMachine, BadMatrix, BadNumber, BadPattern,
-                              BadPolynomial, BadRoads, BadRule, BadSplit, BadState, BadWeb, BadWeights, BadWord, NotText)
+                              BadPolynomial, BadRoads, BadRule, BadSplit, BadState, BadWeb, BadWeights, BadWord,
+                              NotText)
 
 ODD = [-1, 10 ** 30, "", "a", "0", True, False, None, [], [1], {}, {"a": 1}, {0: (0, ())}]
 LOOP = (0, 0, 0)
