@@ -94,7 +94,7 @@ def shows_diamond(web, value):
     one, other = value
     if not _is_walk(edges, one) or not _is_walk(edges, other) or one == other:
         return False
-    return _outside(edges, one) == _outside(edges, other)
+    return _ends_and_labels(edges, one) == _ends_and_labels(edges, other)
 
 
 def _is_walk(edges, value):
@@ -106,7 +106,7 @@ def _is_walk(edges, value):
     return all(edges[one][1] == edges[other][0] for one, other in zip(value, value[1:]))
 
 
-def _outside(edges, walk):
+def _ends_and_labels(edges, walk):
     """Return the start, the end and the labels of a walk."""
     return edges[walk[0]][0], edges[walk[-1]][1], [edges[at][2] for at in walk]
 

@@ -22,6 +22,9 @@ BARRED_NAMES = """register mro elements open input law version_info with_traceba
     importlib license locals methodcaller os quit setattr type vars sys""".split()
 BARRED_WORDS = """typing typing_extensions enum Enum IntEnum StrEnum Flag IntFlag Generic Protocol ABC ABCMeta
     namedtuple NamedTuple TypedDict TYPE_CHECKING abstractmethod dataclass overload contextmanager type""".split()
+# L12: the names that are barred, also with digits or underscores behind them, and the beginnings that are.
+BARRED_WHOLE = re.compile(r"(?<!\w)_(?:cold|tuplegetter|outside|record|written_out|member_names)[0-9_]*(?!\w)")
+BARRED_FIRST = re.compile(r"(?<!\w)_(?:wall|pe_|dcw_|enum_|cm_|twin_re_|lay_|law_|stub_|sre|WallAttr)\w*")
 AT_ONCE = """list tuple dict sorted sum any all enumerate zip min max len reversed product combinations
     permutations""".split()
 STATEMENTS = (ast.Assign, ast.AugAssign, ast.If, ast.While, ast.For, ast.Return, ast.Break, ast.Continue, ast.Pass,
@@ -163,6 +166,22 @@ class Language(unittest.TestCase):
                     self.assertNotIn(word, dir(builtins), f"{name} line {node.lineno} L15")
                     self.assertNotIn(word, BARRED_NAMES, f"{name} line {node.lineno} L17")
 
+    def test_names_that_l12_bars(self):
+        for name, text in sources().items():
+            self.assertEqual(barred_by_l12(text), [], f"{name} L12")
+
+    def test_l12_sees_each_barred_name(self):
+        for name in ("_cold", "_tuplegetter", "_outside", "_record", "_written_out", "_member_names"):
+            for behind in ("", "1", "_", "__", "_2", "30_", "_4_5"):
+                for row in ("def {}(edges, walk):", "    return {}(1) == 2", "self.{} = 3", "from shiftcore.a import {}",
+                            "class {}:", "{} = 4", "def told({}):", "for at, {} in rows:"):
+                    self.assertNotEqual(barred_by_l12(row.format(name + behind)), [], name + behind)
+            for free in (f"{name}s", f"{name}_x", f"x{name}", f"_{name}", f"{name}1a", name[1:], name.upper()):
+                self.assertEqual(barred_by_l12(f"{free} = 4"), [], free)
+        for name in ("_wall", "_walls", "_WallAttr", "_pe_x", "_dcw_", "_enum_a", "_cm_1", "_twin_re_", "_lay_out",
+                     "_law_", "_stub_", "_sre"):
+            self.assertNotEqual(barred_by_l12(f"x = {name}(1)"), [], name)
+
     def test_calls(self):
         for name, node, above in nodes():
             where = f"{name} line {getattr(node, 'lineno', 0)}"
@@ -179,6 +198,11 @@ class Language(unittest.TestCase):
             if is_view and not isinstance(above, (ast.For, ast.comprehension)):
                 self.assertIsInstance(above, ast.Call, f"{where} L23")
                 self.assertIn(above.func.id, AT_ONCE, f"{where} L23")
+
+
+def barred_by_l12(text):
+    """Return the names in a text, comments and strings included, that L12 bars."""
+    return BARRED_WHOLE.findall(text) + BARRED_FIRST.findall(text)
 
 
 def own_methods():
