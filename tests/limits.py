@@ -77,3 +77,28 @@ def marked(gaps):
 # The label 3 and the words of a mark, so many labels 0 or 1, and a mark: 1 + 399 and 1 + 400 least bars.
 GAPS_400 = (0, 1, 2, 3, 7, 8)
 GAPS_401 = (4, 7, 8)
+
+# Walks of 2 edges are 32, 32 and 33, walks of 3 edges 100, 101 and more.
+BLOCKS_32_100 = (3, (
+    (0, 0, 1), (0, 1, 1), (0, 2, 0), (0, 2, 2), (1, 0, 0), (1, 0, 1), (1, 1, 0), (1, 1, 1), (2, 2, 0), (2, 2, 1)))
+BLOCKS_32_101 = (3, (
+    (0, 0, 1), (0, 1, 0), (0, 1, 2), (0, 2, 0), (1, 1, 0), (1, 1, 1), (1, 1, 2), (2, 0, 1), (2, 2, 0), (2, 2, 2)))
+BLOCKS_33 = (5, (
+    (0, 0, 0), (0, 0, 2), (0, 0, 3), (1, 0, 0), (1, 0, 2), (1, 2, 0), (2, 0, 1), (3, 0, 3), (3, 1, 1), (3, 3, 1),
+    (3, 3, 2)))
+# The states of these webs, each with a word as long as the delay (3 and 4), are 32 and 33.
+AHEAD_32 = (4, (
+    (0, 1, 2), (0, 3, 2), (1, 0, 0), (1, 3, 2), (2, 1, 2), (2, 2, 2), (3, 2, 1), (3, 3, 0), (3, 3, 1)))
+AHEAD_33 = (4, ((0, 0, 2), (0, 1, 0), (0, 2, 0), (1, 0, 3), (2, 2, 3), (2, 3, 2), (3, 1, 2)))
+
+
+def ahead(more):
+    """Return a web of the delay 1 whose straightened web has 26 states and 100 edges, or one more if so told.
+
+    The labels tell the ends: each state has one label, and four ends with unlike labels; but state 24 has two labels,
+    and stands behind state 1 in the place of two ends with these labels.
+    """
+    edges = {(state, (4 * state + by) % 24, state % 4) for state in range(24) for by in range(4)}
+    edges -= {(1, 4, 1), (1, 5, 1)}
+    edges |= {(1, 24, 1), (24, 0, 0), (24, 1, 0), (24, 2, 0), (24, 3, 1)}
+    return 25, tuple(sorted(edges | {(24, 6, 1)} if more else edges))

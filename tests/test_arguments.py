@@ -3,8 +3,8 @@
 import unittest
 from copy import deepcopy
 
-from shiftcore import (bars, codes, counting, errors, forcing, growth, machines, matrices, moves, parts, patterns,
-                       readers, roads, rules, webs, webtext)
+from shiftcore import (bars, circle, codes, counting, errors, forcing, growing, growth, machines, matrices, moves,
+                       parts, patterns, readers, recoding, roads, rules, webs, webtext)
 from tests import wrong
 
 FUNCTIONS = [
@@ -82,6 +82,21 @@ FUNCTIONS = [
     (patterns.count_cycles, ["pattern", "number 1 to 60"]),
     (forcing.shown, ["pattern", "number 1 to 6"]),
     (forcing.forces, ["pattern", "pattern"]),
+    (circle.is_rising, ["turns"]),
+    (circle.after_turns, ["turns", "turns"]),
+    (circle.upper, ["turns"]),
+    (circle.lower, ["turns"]),
+    (circle.rotation, ["turns"]),
+    (circle.rotations, ["turns"]),
+    (circle.has_turn, ["turns", "number -100 to 100", "number 1 to 12"]),
+    (circle.common_turn, ["turns"]),
+    (recoding.blocks, ["web", "length 1 to 4"]),
+    (recoding.straightened, ["web"]),
+    (recoding.window, ["web"]),
+    (growing.grown, ["table", "word of letters", "length 0 to 12"]),
+    (growing.counts, ["table"]),
+    (growing.is_mingling, ["table"]),
+    (growing.pieces, ["table", "length 0 to 6"]),
 ]
 
 INTERFACE = {
@@ -100,6 +115,9 @@ INTERFACE = {
     "rules": "image rule_web composed orphan current still_web",
     "patterns": "pattern_web mirror doubled comes_before has_period kind stefan count_cycles",
     "forcing": "shown forces",
+    "circle": "is_rising after_turns upper lower rotation rotations has_turn common_turn",
+    "recoding": "blocks straightened window",
+    "growing": "grown counts is_mingling pieces",
 }
 
 

@@ -91,8 +91,32 @@ FORCING = """
 >>> [shown((1, 2, 0), 1), shown((1, 2, 0), 2), shown((1, 2, 0), 3), forces((1, 2, 0), (1, 0)), forces((1, 0), (1, 2, 0))]
 [((0,),), ((1, 0),), ((1, 2, 0),), True, False]
 """
+CIRCLE = """
+>>> from shiftcore.circle import common_turn, has_turn, rotations, upper
+>>> [upper((0, 3)), rotations((0, 3)), has_turn((0, 3), 1, 2), has_turn((1, 2), 2, 4), common_turn((1, 2, 3))]
+[(1, 3), ((0, 1), (1, 1)), True, False, (1, 3)]
+"""
+RECODING = """
+>>> from shiftcore.recoding import straightened, window
+>>> late = (3, ((0, 1, 0), (0, 2, 0), (1, 0, 1), (2, 0, 2)))
+>>> [straightened(late), window(late)]
+[(3, ((0, 1, 1), (0, 2, 2), (1, 0, 0), (2, 0, 0))), 1]
+"""
+GROWING = """
+>>> from shiftcore.growing import counts, grown, is_mingling, pieces
+>>> table = ((0, 1), (0,))
+>>> [grown(table, (0,), 4), counts(table), is_mingling(table), pieces(table, 2)]
+[(0, 1, 0, 0, 1, 0, 1, 0), ((1, 1), (1, 0)), True, ((0, 0), (0, 1), (1, 0))]
+"""
+SHELF = """
+>>> from shiftcore.shelf import Shelf
+>>> shelf = Shelf()
+>>> first = [shelf.put('a', (1, ((0, 0, 0),))), shelf.put('b', (2, ((0, 1, 0), (1, 0, 0))))]
+>>> [shelf.classes(), shelf.least_for({'x': (1, ((0, 0, 1),)), 'y': (1, ((0, 0, 0),))}), shelf.undo(), shelf.names()]
+[(('a', 'b'),), ('x',), None, ('a',)]
+"""
 EXAMPLES = [WEBS, PARTS, WEBTEXT, WEBTEXT_ERROR, BARS, READERS, COUNTING, GROWTH, MATRICES, MOVES, CODES, MACHINES,
-            ROADS, RULES, PATTERNS, FORCING]
+            ROADS, RULES, PATTERNS, FORCING, CIRCLE, RECODING, GROWING, SHELF]
 
 
 def outcome(text, names):

@@ -1,8 +1,8 @@
 """Values that are not allowed, of every kind that point 1 names, and what is raised for them."""
 
 from shiftcore.errors import (BadBars, BadLength, BadLetters, BadMachine, BadMatrix, BadNumber, BadPattern,
-                              BadPolynomial, BadRoads, BadRule, BadSplit, BadState, BadWeb, BadWeights, BadWord,
-                              NotText)
+                              BadPolynomial, BadRoads, BadRule, BadSplit, BadState, BadTable, BadTurns, BadWeb,
+                              BadWeights, BadWord, NotText)
 
 ODD = [-1, 10 ** 30, "", "a", "0", True, False, None, [], [1], {}, {"a": 1}, {0: (0, ())}]
 LOOP = (0, 0, 0)
@@ -28,7 +28,8 @@ WORDS += [((0,) * 61, None), ((0, (1,)), None), (([],), None), ((0, 1, 10 ** 30)
 
 def lengths(low, high):
     """Return values that are not integers from low to high."""
-    return [(value, None) for value in ODD + [low - 1, high + 1, (low,), [low], {low: low}, str(low), -10 ** 30]]
+    found = ODD + [low - 1, high + 1, (low,), [low], {low: low}, str(low), -10 ** 30]
+    return [(value, None) for value in found if isinstance(value, bool) or value not in range(low, high + 1)]
 
 
 POLYNOMIALS = [(value, None) for value in ODD + [0, 1, (), (0,), (-1,), (2,), (0, 1), (1, 0), (1, 1, 0), [1, 1]]]
@@ -81,6 +82,12 @@ PATTERNS = [(value, None) for value in ODD + [0, 1, (), (1,), (0, 1), (1, 1), (1
 PATTERNS += [((1, value), None) for value in ODD + [1, 2, (0,)]]
 PATTERNS += [((1, 2, 3, 4, 5, 6, 7, 8, 9, 0), None), ((True, 0), None), ((2, 3, 0, 1), None), ((False,), None)]
 
+TURNS = [(value, None) for value in ODD + [0, 1, (), (0,) * 9, [0, 1], "01", ((0,),), ("0",), (None,), (True,)]]
+TURNS += [((0, value), None) for value in ODD + [41, -41, (0,)] if value != -1]
+
+TABLES = [(value, None) for value in ODD + [0, 1, (), ((0,),), ((0,),) * 4, [(0,), (1,)], ((0,), ()), ("0", "1")]]
+TABLES += [(((0, 1), value), None) for value in ODD + [0, (), (2,), (-1,), (0,) * 5, [0], ("0",), ((0,),), (True,)]]
+
 ANYTHING = [(value, None) for value in ODD + [0, 1, (), (1,), ((),), ((1,),), ((0, 1), (1, 0)), ((None,), ([],))]]
 
 KINDS = {
@@ -111,5 +118,12 @@ KINDS = {
     "number 1 to 1000000": (BadNumber, lengths(1, 1000000), 5),
     "number 1 to 60": (BadNumber, lengths(1, 60), 5),
     "number 1 to 6": (BadNumber, lengths(1, 6), 5),
+    "turns": (BadTurns, TURNS, (0, 1, 2)),
+    "number -100 to 100": (BadNumber, lengths(-100, 100), 1),
+    "number 1 to 12": (BadNumber, lengths(1, 12), 3),
+    "length 1 to 4": (BadLength, lengths(1, 4), 2),
+    "table": (BadTable, TABLES, ((0, 1), (0,))),
+    "word of letters": (BadWord, WORDS + [((0,) * 21, None), ((2,), None), ((0, 3), None)], (0, 1)),
+    "length 0 to 6": (BadLength, lengths(0, 6), 2),
     "odd number 3 to 9": (BadNumber, lengths(3, 9) + [(1, None), (4, None), (6, None), (8, None), (11, None)], 5),
 }
