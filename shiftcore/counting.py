@@ -40,7 +40,12 @@ def count_orbits(web, length):
     """Return the number of classes of sequences whose least period is `length`."""
     check_web(web)
     check_length(length, 1, LONGEST_PERIOD)
-    return least_counts(_periodic_counts(web, length))[-1] // length
+    return orbit_counts(web, length)[-1]
+
+
+def orbit_counts(web, length):
+    """Return the list of the numbers of classes of sequences with the least periods 1, 2, .., length."""
+    return [count // n for n, count in enumerate(least_counts(_periodic_counts(web, length)), start=1)]
 
 
 def _periodic_counts(web, length):

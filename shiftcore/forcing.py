@@ -2,6 +2,7 @@
 
 from shiftcore.checks import check_number
 from shiftcore.errors import TooMany
+from shiftcore.graphs import is_smallest
 from shiftcore.patterns import check_pattern, closed_counts, pieces_over
 
 LONGEST_CYCLE = 6
@@ -28,13 +29,8 @@ def _closed_walks(over, length):
         walks = [(start,)]
         for _ in range(length - 1):
             walks = [(*walk, there) for walk in walks for there in over[walk[-1]] if there >= start]
-        found.extend([walk for walk in walks if start in over[walk[-1]] and _is_smallest(walk)])
+        found.extend([walk for walk in walks if start in over[walk[-1]] and is_smallest(walk)])
     return found
-
-
-def _is_smallest(walk):
-    """Return whether a closed walk is smaller than it is from all other starting places."""
-    return all(walk < walk[at:] + walk[:at] for at in range(1, len(walk)))
 
 
 def _points(pattern, walk):

@@ -86,3 +86,8 @@ def _next_layer(ready, nexts, waiting):
             if waiting[there] == 0:
                 layer.append(there)
     return layer
+
+
+def is_smallest(walk):
+    """Return whether a closed walk is smaller than it is from all other starting places."""
+    return all(walk < walk[at:] + walk[:at] for at in range(1, len(walk)))

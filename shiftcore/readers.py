@@ -24,13 +24,13 @@ def same_shift(one, other):
 def parting_word(one, other):
     """Return the word, shorter, then smaller, that exactly one of two webs reads, or None."""
     rows, others = _both_readers(one, other)
-    return _least_word(rows, others, True)
+    return least_word(rows, others, True)
 
 
 def stray_word(one, other):
     """Return the word, shorter, then smaller, that the second web reads and the first one does not, or None."""
     rows, others = _both_readers(one, other)
-    return _least_word(rows, others, False)
+    return least_word(rows, others, False)
 
 
 def _both_readers(one, other):
@@ -40,7 +40,7 @@ def _both_readers(one, other):
     return reader(one), reader(other)
 
 
-def _least_word(rows, others, either):
+def least_word(rows, others, either):
     """Return the least word that the second reader reads and the first one does not, `either` way round if so told."""
     if not rows or not others:
         return () if others or (either and rows) else None

@@ -7,7 +7,7 @@ from shiftcore.checks import is_word
 from shiftcore.errors import BadRoads, NotWhole
 from shiftcore.graphs import is_one_part
 from shiftcore.machines import is_machine, reset_word
-from shiftcore.squares import characteristic, empty_square
+from shiftcore.squares import diagonal_minors, empty_square
 
 MOST_STATES = 5
 FEWEST_ROADS = 2
@@ -39,13 +39,12 @@ def shows_coloring(roads, value):
 def weights(roads):
     """Return the positive integers without a common divisor whose sums over roads are as many times themselves."""
     _check_roads(roads)
-    many = len(roads)
-    counts = empty_square(many)
+    less = empty_square(len(roads))
     for start, row in enumerate(roads):
+        less[start][start] += len(row)
         for end in row:
-            counts[start][end] += 1
-    # Each row of k I - A has the sum 0; so what its columns have in common is told by its diagonal minors.
-    minors = [_shifted_determinant(_without(counts, state), len(roads[0])) for state in range(many)]
+            less[start][end] -= 1
+    minors = diagonal_minors(less)
     divisor = 0
     for minor in minors:
         divisor = gcd(divisor, minor)
@@ -64,18 +63,3 @@ def _check_roads(roads):
     arrows = [(start, end) for start, row in enumerate(roads) for end in row]
     if not is_one_part(len(roads), arrows):
         raise NotWhole("no road from some state to some state")
-
-
-def _without(rows, state):
-    """Return rows without the row and the column of a state."""
-    kept = [row for at, row in enumerate(rows) if at != state]
-    return [[entry for at, entry in enumerate(row) if at != state] for row in kept]
-
-
-def _shifted_determinant(rows, factor):
-    """Return the determinant of factor times I less a matrix."""
-    found = characteristic(rows)
-    worth = 0
-    for at in range(len(rows) + 1):
-        worth = worth * factor + (found[at] if at < len(found) else 0)
-    return worth

@@ -50,6 +50,26 @@ def characteristic(rows):
     return tuple(found)
 
 
+def determinant(rows):
+    """Return the determinant of a matrix."""
+    # The last coefficient of the determinant of I + t A, if it is not 0.
+    found = characteristic([[-entry for entry in row] for row in rows])
+    return found[len(rows)] if len(found) > len(rows) else 0
+
+
+def diagonal_minors(rows):
+    """Return the determinants that are left if each row, with its column, is left out.
+
+    If all rows have the sum 0, these multiples of them have the sum 0, too.
+    """
+    return [determinant(_without(rows, at)) for at in range(len(rows))]
+
+
+def _without(rows, out):
+    """Return rows without one row and its column."""
+    return [[entry for by, entry in enumerate(row) if by != out] for at, row in enumerate(rows) if at != out]
+
+
 def diagonal_of(rows):
     """Return the positive numbers, each a divisor of the next one, that are left on a diagonal of zeros elsewhere.
 

@@ -3,8 +3,9 @@
 import unittest
 from copy import deepcopy
 
-from shiftcore import (bars, circle, codes, counting, errors, forcing, growing, growth, machines, matrices, moves,
-                       parts, patterns, readers, recoding, roads, rules, webs, webtext)
+from shiftcore import (bars, chains, circle, codes, coding, counting, errors, fitting, forcing, growing, growth,
+                       lumping, machines, matrices, moves, parts, patterns, readers, recoding, roads, rules, webs,
+                       webtext)
 from tests import wrong
 
 FUNCTIONS = [
@@ -97,6 +98,21 @@ FUNCTIONS = [
     (growing.counts, ["table"]),
     (growing.is_mingling, ["table"]),
     (growing.pieces, ["table", "length 0 to 6"]),
+    (chains.steady, ["chain"]),
+    (chains.expected_steps, ["chain", "state", "state"]),
+    (chains.chance_first, ["chain", "state", "state", "state but 0"]),
+    (chains.mean_time, ["chain"]),
+    (lumping.is_two_way, ["chain"]),
+    (lumping.is_even, ["chain", "any"]),
+    (lumping.coarsest, ["chain", "parts"]),
+    (coding.coded_web, ["web", "length 1 to 3", "code"]),
+    (coding.carries, ["web", "web", "length 1 to 3", "code"]),
+    (coding.covers, ["web", "web", "length 1 to 3", "code"]),
+    (coding.first_code, ["web", "web", "length 1 to 3"]),
+    (coding.first_cover, ["web", "web", "length 1 to 3"]),
+    (fitting.orbits_fit, ["web", "web", "length 1 to 60"]),
+    (fitting.common_part, ["web", "web"]),
+    (fitting.first_orbit, ["web", "length 1 to 8"]),
 ]
 
 INTERFACE = {
@@ -118,6 +134,10 @@ INTERFACE = {
     "circle": "is_rising after_turns upper lower rotation rotations has_turn common_turn",
     "recoding": "blocks straightened window",
     "growing": "grown counts is_mingling pieces",
+    "chains": "steady expected_steps chance_first mean_time",
+    "lumping": "is_two_way is_even coarsest",
+    "coding": "coded_web carries covers first_code first_cover",
+    "fitting": "orbits_fit common_part first_orbit",
 }
 
 

@@ -115,8 +115,31 @@ SHELF = """
 >>> [shelf.classes(), shelf.least_for({'x': (1, ((0, 0, 1),)), 'y': (1, ((0, 0, 0),))}), shelf.undo(), shelf.names()]
 [(('a', 'b'),), ('x',), None, ('a',)]
 """
+CHAINS = """
+>>> from shiftcore.chains import chance_first, expected_steps, mean_time, steady
+>>> [steady(((0, 1), (1, 1))), expected_steps(((1, 1), (0, 1)), 0, 1), expected_steps(((1, 1), (0, 1)), 1, 0), chance_first(((0, 1, 2), (0, 1, 0), (0, 0, 1)), 0, 1, 2), mean_time(((0, 1), (1, 1)))]
+[((1, 3), (2, 3)), (2, 1), None, (1, 3), (2, 3)]
+"""
+LUMPING = """
+>>> from shiftcore.lumping import coarsest, is_two_way
+>>> [is_two_way(((0, 1, 0), (0, 0, 1), (1, 0, 0))), coarsest(((0, 1, 1), (2, 0, 0), (1, 0, 0)), ((0,), (1, 2)))]
+[False, ((0,), (1, 2))]
+"""
+CODING = """
+>>> from shiftcore.coding import covers, first_code, first_cover
+>>> full, golden = (1, ((0, 0, 0), (0, 0, 1))), (2, ((0, 0, 0), (0, 1, 1), (1, 0, 0)))
+>>> [first_code(full, golden, 1), first_cover(full, golden, 2), first_cover(golden, full, 1), covers(golden, golden, 1, (0, 1))]
+[(0, 0), (0, 0, 1, 0), None, True]
+"""
+FITTING = """
+>>> from shiftcore.fitting import common_part, first_orbit, orbits_fit
+>>> full, golden = (1, ((0, 0, 0), (0, 0, 1))), (2, ((0, 0, 0), (0, 1, 1), (1, 0, 0)))
+>>> [orbits_fit(full, golden, 5), common_part(golden, (1, ((0, 0, 1),))), first_orbit(golden, 3)]
+[1, 2, (0, 0, 1)]
+"""
 EXAMPLES = [WEBS, PARTS, WEBTEXT, WEBTEXT_ERROR, BARS, READERS, COUNTING, GROWTH, MATRICES, MOVES, CODES, MACHINES,
-            ROADS, RULES, PATTERNS, FORCING, CIRCLE, RECODING, GROWING, SHELF]
+            ROADS, RULES, PATTERNS, FORCING, CIRCLE, RECODING, GROWING, SHELF, CHAINS, LUMPING, CODING,
+            FITTING]
 
 
 def outcome(text, names):

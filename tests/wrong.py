@@ -1,8 +1,8 @@
 """Values that are not allowed, of every kind that point 1 names, and what is raised for them."""
 
-from shiftcore.errors import (BadBars, BadLength, BadLetters, BadMachine, BadMatrix, BadNumber, BadPattern,
-                              BadPolynomial, BadRoads, BadRule, BadSplit, BadState, BadTable, BadTurns, BadWeb,
-                              BadWeights, BadWord, NotText)
+from shiftcore.errors import (BadBars, BadChain, BadCode, BadLength, BadLetters, BadMachine, BadMatrix, BadNumber,
+                              BadParts, BadPattern, BadPolynomial, BadRoads, BadRule, BadSplit, BadState, BadTable,
+                              BadTurns, BadWeb, BadWeights, BadWord, NotText)
 
 ODD = [-1, 10 ** 30, "", "a", "0", True, False, None, [], [1], {}, {"a": 1}, {0: (0, ())}]
 LOOP = (0, 0, 0)
@@ -88,6 +88,18 @@ TURNS += [((0, value), None) for value in ODD + [41, -41, (0,)] if value != -1]
 TABLES = [(value, None) for value in ODD + [0, 1, (), ((0,),), ((0,),) * 4, [(0,), (1,)], ((0,), ()), ("0", "1")]]
 TABLES += [(((0, 1), value), None) for value in ODD + [0, (), (2,), (-1,), (0,) * 5, [0], ("0",), ((0,),), (True,)]]
 
+CHAINS = [(value, None) for value in ODD + [0, 1, (), (1,), ((),), [(1,)], ([1],), ((0,),), ((1, 1),), ((1,), (1,))]]
+CHAINS += [(((1, 2), value), None) for value in ODD + [0, (), (1,), (0, 0), (1, 1, 1), [1, 1], (1, 21), (-1, 1)]]
+CHAINS += [(((1, 2), (3, value)), None) for value in ODD + [21, (0,)]] + [(((1,) * 6,) * 6, None)]
+
+# For a chain of two states.
+PARTS = [(value, None) for value in ODD + [0, 1, (), (0, 1), ((0,),), ((1,), (0,)), ((1, 0),), ((0, 1), ())]]
+PARTS += [(((0,), value), None) for value in ODD + [1, (), (0,), (2,), (0, 1), [1], (True,), ("1",), (None,), (1, 1)]]
+
+# For a web that reads two words of the window.
+CODES = [(value, None) for value in ODD + [0, 1, (), (0,), (0, 1, 2), [0, 1], "01", {0: 0, 1: 1}]]
+CODES += [((0, value), None) for value in ODD + [4, (0,)]]
+
 ANYTHING = [(value, None) for value in ODD + [0, 1, (), (1,), ((),), ((1,),), ((0, 1), (1, 0)), ((None,), ([],))]]
 
 KINDS = {
@@ -125,5 +137,11 @@ KINDS = {
     "table": (BadTable, TABLES, ((0, 1), (0,))),
     "word of letters": (BadWord, WORDS + [((0,) * 21, None), ((2,), None), ((0, 3), None)], (0, 1)),
     "length 0 to 6": (BadLength, lengths(0, 6), 2),
+    "chain": (BadChain, CHAINS, ((0, 1), (1, 1))),
+    "state but 0": (BadState, STATES + [(0, None)], 1),
+    "parts": (BadParts, PARTS, ((0,), (1,))),
+    "length 1 to 3": (BadLength, lengths(1, 3), 1),
+    "code": (BadCode, CODES, (0, 1)),
+    "length 1 to 8": (BadLength, lengths(1, 8), 3),
     "odd number 3 to 9": (BadNumber, lengths(3, 9) + [(1, None), (4, None), (6, None), (8, None), (11, None)], 5),
 }
