@@ -245,6 +245,17 @@ class Turning(unittest.TestCase):
                          [True, False, False, True, False, False])
         self.assertEqual([has_turn((0, 3), *turn) for turn in ((1, 2), (2, 4), (3, 6), (4, 8), (6, 12))], [True] * 5)
 
+    def test_rising_maps_turn_in_lowest_terms_alone(self):
+        for turns in RISING:
+            top, bottom = rotation(turns)
+            self.assertIs(has_turn(turns, top, bottom), True)
+            for times in range(2, 12 // bottom + 1):
+                if abs(times * top) <= 100:
+                    self.assertIs(has_turn(turns, times * top, times * bottom), False)
+            for other in (top - 1, top + 1):
+                if abs(other) <= 100:
+                    self.assertIs(has_turn(turns, other, bottom), False)
+
     def test_bounds(self):
         self.assertIs(has_turn((40,), 40, 1), True)
         self.assertIs(has_turn((-40, 40), 100, 12), True)
